@@ -1,0 +1,292 @@
+"""The rules of the subset of Python that can be seen in the code itself, rule by rule."""
+
+import ast
+import builtins
+import pathlib
+import re
+import unittest
+
+PACKAGE = pathlib.Path(__file__).resolve().parent.parent / "partedlanes"
+FILES = sorted(path for path in PACKAGE.iterdir() if path.name != "__pycache__")
+TREES = {path: ast.parse(path.read_text()) for path in FILES}
+NODES = [(path, node) for path, tree in TREES.items() for node in ast.walk(tree)]
+
+BUILTINS = set(
+    "len range enumerate zip min max sum abs sorted reversed int str bool bytes list tuple dict set frozenset "
+    "isinstance ord repr any all divmod iter next map Exception ValueError TypeError KeyError IndexError LookupError "
+    "ZeroDivisionError ArithmeticError OverflowError RuntimeError NotImplementedError AttributeError StopIteration "
+    "NotImplemented staticmethod classmethod property super".split()
+)
+METHODS = set(
+    "append clear copy count endswith extend find get index insert isalnum isalpha isdigit islower isspace isupper "
+    "items join keys ljust lower lstrip partition pop remove replace reverse rfind rjust rpartition rsplit rstrip "
+    "setdefault split splitlines startswith strip update upper values zfill bit_length add discard".split()
+)
+DOUBLE = set(
+    "__init__ __eq__ __repr__ __str__ __len__ __enter__ __exit__ __call__ __iter__ __contains__ __getitem__ "
+    "__setitem__ __add__ __radd__ __mul__ __rmul__".split()
+)
+BARRED_NAMES = set(
+    "register mro elements open input law version_info with_traceback add_note attrgetter breakpoint builtins compile "
+    "copyright credits delattr dir eval exec exit gc getattr globals hasattr help id importlib license locals "
+    "methodcaller os quit setattr super type vars sys".split()
+)
+BARRED_WORDS = re.compile(
+    r"\b(type|typing|typing_extensions|enum|Enum|IntEnum|StrEnum|Flag|IntFlag|Generic|Protocol|ABC|ABCMeta|"
+    r"namedtuple|NamedTuple|TypedDict|TYPE_CHECKING|abstractmethod)\b"
+)
+BARRED_EVERYWHERE = ("dataclass", "overload", "contextmanager", "_wall", "_WallAttr", "(type)", "Meta", "metaclass=")
+BARRED_NODES = (
+    ast.Global, ast.AsyncFor, ast.AsyncWith, ast.AsyncFunctionDef, ast.Await, ast.Import, ast.AnnAssign, ast.Div,
+    ast.NamedExpr, ast.GeneratorExp, ast.Yield, ast.YieldFrom, ast.MatMult,
+)
+LIBRARY = {"heapq", "math", "itertools"}
+
+
+def functions():
+    """All functions of the package with their files."""
+    return [(path, node) for path, node in NODES if isinstance(node, ast.FunctionDef)]
+
+
+def classes():
+    """All classes of the package with their files."""
+    return [(path, node) for path, node in NODES if isinstance(node, ast.ClassDef)]
+
+
+def bound_names(tree):
+    """All names that code binds, with the lines."""
+    for node in ast.walk(tree):
+        if isinstance(node, (ast.FunctionDef, ast.ClassDef)):
+            yield node.name, node.lineno
+        elif isinstance(node, ast.arg):
+            yield node.arg, node.lineno
+        elif isinstance(node, ast.Name) and not isinstance(node.ctx, ast.Load):
+            yield node.id, node.lineno
+        elif isinstance(node, ast.alias):
+            yield node.asname or node.name, node.lineno
+        elif isinstance(node, ast.ExceptHandler) and node.name:
+            yield node.name, node.lineno
+
+
+class TestLanguage(unittest.TestCase):
+    def check(self, rule, found):
+        self.assertEqual([(path.name, line, what) for path, line, what in found], [], rule)
+
+    def test_files(self):
+        for path in FILES:
+            self.assertTrue(path.is_file() and re.fullmatch(r"[a-z0-9_]+\.py", path.name), path)
+            text = path.read_text()
+            self.assertTrue(all(sign == "\n" or " " <= sign <= "~" for sign in text), path)
+            lines = text.split("\n")
+            self.assertLessEqual(len(lines), 399, path)
+            self.assertLessEqual(max(map(len, lines)), 120, path)
+
+    def test_functions_are_small(self):
+        self.check("L10", [(p, f.lineno, f.name) for p, f in functions() if f.end_lineno - f.lineno >= 40])
+
+    def test_imports(self):
+        found = []
+        imported = {}
+        for path, node in NODES:
+            if isinstance(node, ast.ImportFrom):
+                home = path.parent.parent / (node.module.replace(".", "/") + ".py")
+                own = node.module.startswith("partedlanes.") and home.exists()
+                if node.level or not (own or node.module in LIBRARY) or any(name.asname for name in node.names):
+                    found.append((path, node.lineno, node.module))
+                if own:
+                    imported.setdefault(path, []).append(home)
+                    defined = [name for child in TREES[home].body for name, _ in top_names(child)]
+                    found += [(path, node.lineno, n.name) for n in node.names if n.name not in defined]
+        self.check("L2, L16", found)
+        for path in imported:
+            reached, left = set(), list(imported[path])
+            while left:
+                home = left.pop()
+                if home not in reached:
+                    reached.add(home)
+                    left += imported.get(home, [])
+            self.assertNotIn(path, reached, "L16: files that import from each other")
+
+    def test_imports_are_used(self):
+        found = []
+        for path, tree in TREES.items():
+            used = {node.id for node in ast.walk(tree) if isinstance(node, ast.Name)}
+            for node in tree.body:
+                if isinstance(node, ast.ImportFrom):
+                    found += [(path, node.lineno, name.name) for name in node.names if name.name not in used]
+        self.check("imports that are not used", found)
+
+    def test_module_level(self):
+        allowed = (ast.ImportFrom, ast.FunctionDef, ast.ClassDef, ast.Assign, ast.Expr)
+        found = []
+        for path, tree in TREES.items():
+            names = []
+            for place, node in enumerate(tree.body):
+                names += top_names(node)
+                if not isinstance(node, allowed) or (isinstance(node, ast.Expr) and place):
+                    found.append((path, node.lineno, ast.dump(node)))
+                if isinstance(node, ast.Assign):
+                    inner = [n for n in ast.walk(node.value) if isinstance(n, (ast.List, ast.Dict)) and n != node.value]
+                    inner += [n for n in ast.walk(node.value) if isinstance(n, (ast.Call, ast.Set, ast.ListComp))]
+                    found += [(path, node.lineno, ast.dump(n)) for n in inner]
+            words = [name for name, _ in names]
+            found += [(path, line, name) for name, line in names if words.count(name) > 1]
+        self.check("L3, L15", found)
+
+    def test_statements_and_expressions(self):
+        self.check("L6, L7", [(p, n.lineno, n) for p, n in NODES if isinstance(n, BARRED_NODES) and hasattr(n, "lineno")])
+        self.check("L7", [(p, n.lineno, n) for p, n in NODES if isinstance(n, ast.BinOp) and isinstance(n.op, ast.Div)])
+
+    def test_decorators_and_bases(self):
+        found = []
+        for path, node in functions():
+            names = [ast.unparse(mark) for mark in node.decorator_list]
+            found += [(path, node.lineno, name) for name in names if name not in ("staticmethod", "classmethod")]
+        found += [(p, c.lineno, c.name) for p, c in classes() if c.decorator_list or c.keywords]
+        self.check("L4, L5", found)
+
+    def test_double_underscore_names(self):
+        found = []
+        for path, tree in TREES.items():
+            found += [(path, line, name) for name, line in bound_names(tree)
+                      if name.startswith("__") and name not in DOUBLE]
+        for path, node in NODES:
+            if isinstance(node, ast.Attribute) and node.attr.startswith("__") and node.attr != "__init__":
+                found.append((path, node.lineno, node.attr))
+        self.check("L5, L8, L12", found)
+
+    def test_builtins(self):
+        found = []
+        for path, node in NODES:
+            if isinstance(node, ast.Name) and hasattr(builtins, node.id) and node.id not in BUILTINS:
+                found.append((path, node.lineno, node.id))
+        for path, tree in TREES.items():
+            inside = {id(part) for c in ast.walk(tree) if isinstance(c, ast.ClassDef) for part in c.body}
+            methods = {part.name for c in ast.walk(tree) if isinstance(c, ast.ClassDef) for part in c.body
+                       if isinstance(part, ast.FunctionDef) and id(part) in inside}
+            found += [(path, line, name) for name, line in bound_names(tree)
+                      if (hasattr(builtins, name) or name in BARRED_NAMES) and name not in methods]
+        self.check("L8, L15, L17", found)
+
+    def test_attributes(self):
+        found = []
+        for path, node in NODES:
+            if isinstance(node, ast.Attribute) and node.attr in ("register", "mro", "elements", "open", "input", "law",
+                                                                "format", "format_map", "keys", "sort", "args"):
+                found.append((path, node.lineno, node.attr))
+        self.check("L8, L17, L26", found)
+
+    def test_names_of_files_stay_free(self):
+        found = []
+        for path, tree in TREES.items():
+            top = {name for node in tree.body if isinstance(node, (ast.ImportFrom, ast.ClassDef))
+                   for name, _ in top_names(node)}
+            for node in ast.walk(tree):
+                if isinstance(node, ast.arg) and node.arg in top:
+                    found.append((path, node.lineno, node.arg))
+                if isinstance(node, ast.Name) and not isinstance(node.ctx, ast.Load) and node.id in top:
+                    found.append((path, node.lineno, node.id))
+        self.check("L15", found)
+
+    def test_words(self):
+        for path in FILES:
+            text = path.read_text()
+            for word in BARRED_EVERYWHERE:
+                self.assertNotIn(word, text, path)
+            code = ast.unparse(without_docstrings(ast.parse(text)))
+            self.assertIsNone(BARRED_WORDS.search(code), path)
+
+    def test_strings(self):
+        found = []
+        for path, node in NODES:
+            if isinstance(node, ast.Constant) and isinstance(node.value, (float, complex, bytes)):
+                found.append((path, node.lineno, node.value))
+            if isinstance(node, ast.Constant) and isinstance(node.value, str):
+                text = node.value
+                if "%" in text or text.endswith(("._", ".__")) or (text.startswith("__") and text.endswith("__")):
+                    found.append((path, node.lineno, text))
+        self.check("L7, L27", found)
+
+    def test_is_only_with_none_true_and_false(self):
+        found = []
+        for path, node in NODES:
+            if isinstance(node, ast.Compare) and any(isinstance(op, (ast.Is, ast.IsNot)) for op in node.ops):
+                sides = [node.left, *node.comparators]
+                if not any(isinstance(s, ast.Constant) and (s.value is None or isinstance(s.value, bool)) for s in sides):
+                    found.append((path, node.lineno, ast.unparse(node)))
+        self.check("L20", found)
+
+    def test_methods_are_called_where_they_stand(self):
+        own = {part.name for _, c in classes() for part in c.body if isinstance(part, ast.FunctionDef)}
+        found = []
+        for path, node in NODES:
+            if isinstance(node, ast.Call) and isinstance(node.func, ast.Attribute):
+                if node.func.attr not in own | METHODS:
+                    found.append((path, node.lineno, node.func.attr))
+                if node.func.attr in METHODS and node.keywords:
+                    found.append((path, node.lineno, node.func.attr))
+        self.check("L25", found)
+
+    def test_sets_stand_where_they_may(self):
+        found = []
+        for path, tree in TREES.items():
+            allowed = set()
+            for node in ast.walk(tree):
+                if isinstance(node, ast.Call) and isinstance(node.func, ast.Name) and node.func.id in ("sorted", "len"):
+                    allowed |= {id(part) for part in node.args}
+            for node in ast.walk(tree):
+                made = isinstance(node, ast.Call) and isinstance(node.func, ast.Name) and node.func.id == "set"
+                if (made or isinstance(node, (ast.Set, ast.SetComp))) and id(node) not in allowed:
+                    found.append((path, node.lineno, ast.unparse(node)))
+        self.check("L24", found)
+
+    def test_what_operators_give_is_plain(self):
+        for path, node in functions():
+            returns = [part.value for part in ast.walk(node) if isinstance(part, ast.Return)]
+            if node.name == "__len__":
+                self.assertTrue(all(ast.unparse(part).startswith("len(") for part in returns), path)
+            if node.name == "__init__":
+                self.assertEqual(returns, [], path)
+            if node.name == "__eq__":
+                self.assertEqual(len(node.body), 1, path)
+            if node.name in DOUBLE - {"__init__", "__setitem__", "__exit__", "__enter__"}:
+                changes = [part for part in ast.walk(node) if isinstance(part, (ast.AugAssign, ast.Delete))]
+                changes += [part for part in ast.walk(node) if isinstance(part, (ast.Attribute, ast.Subscript))
+                            and not isinstance(part.ctx, ast.Load)]
+                self.assertEqual(changes, [], path)
+
+    def test_no_name_is_a_method_and_an_attribute_of_one_class(self):
+        for path, node in classes():
+            methods = {part.name for part in node.body if isinstance(part, ast.FunctionDef)}
+            stored = {part.attr for part in ast.walk(node) if isinstance(part, ast.Attribute)
+                      and isinstance(part.ctx, ast.Store)}
+            self.assertEqual(methods & stored, set(), path)
+            self.assertEqual(len(methods), len([p for p in node.body if isinstance(p, ast.FunctionDef)]), path)
+
+    def test_classes_that_are_indexed_refuse_to_be_gone_over(self):
+        for path, node in classes():
+            methods = {part.name for part in node.body if isinstance(part, ast.FunctionDef)}
+            self.assertTrue("__getitem__" not in methods or "__iter__" in methods, path)
+
+
+def top_names(node):
+    """The names that a statement at module level binds, with its line."""
+    if isinstance(node, (ast.FunctionDef, ast.ClassDef)):
+        return [(node.name, node.lineno)]
+    if isinstance(node, ast.ImportFrom):
+        return [(name.name, node.lineno) for name in node.names]
+    if isinstance(node, ast.Assign):
+        return [(part.id, node.lineno) for part in node.targets]
+    return []
+
+
+def without_docstrings(tree):
+    """A tree without its docstrings."""
+    for node in ast.walk(tree):
+        if isinstance(node, (ast.Module, ast.ClassDef, ast.FunctionDef)) and ast.get_docstring(node) is not None:
+            node.body = node.body[1:] or [ast.Pass()]
+    return tree
+
+
+if __name__ == "__main__":
+    unittest.main()
