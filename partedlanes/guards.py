@@ -1,16 +1,30 @@
 """Refusals that several modules share."""
 
 from partedlanes.checks import is_between
-from partedlanes.errors import BadNumber, BadProgram
+from partedlanes.errors import BadNumber, BadProgram, BadRule
 from partedlanes.programs import Program
 
 MOST_STEPS = 1000
+PILE_RULES = ("told", "first")
+RULES = ("told", "first", "least", "greatest")
 
 
 def ask_program(program):
     """Refuses any value that is no program."""
     if not isinstance(program, Program):
         raise BadProgram(program)
+
+
+def ask_rule(rule, rules):
+    """Refuses any value that is none of these rules."""
+    if not isinstance(rule, str) or rule not in rules:
+        raise BadRule(rule)
+
+
+def ask_row(program, row):
+    """Refuses any value that is no number of a row."""
+    if not is_between(row, 0, program.end - 1):
+        raise BadNumber(row)
 
 
 def ask_most(most):
