@@ -36,8 +36,8 @@ class Moves:
         """All places to which a lane can come by one row: the row, or the end, and the class."""
         row, registers = place
         later = next_row(self.program, row, registers)
-        values = range(self.program.size) if self.program.rows[row][0] == "take" else range(1)
-        return [(later, classes_behind(self.program, row, [registers], [value])[0]) for value in values]
+        many = self.program.size if self.program.rows[row][0] == "take" else 1
+        return [(later, classes_behind(self.program, row, [registers], [value])[0]) for value in range(many)]
 
     def does(self, state):
         """The row that is done next, or None."""
@@ -129,8 +129,9 @@ class Graph:
         depth = len(self.layers)
         found = []
         for state in layer:
-            self.behind[state] = self.moves.steps(state)
-            for later in self.behind[state]:
+            states = self.moves.steps(state)
+            self.behind[state] = states
+            for later in states:
                 if later not in self.depths:
                     self.depths[later] = depth
                     found.append(later)

@@ -278,6 +278,15 @@ class TestAlone(unittest.TestCase):
         lane = Alone(turn, Data(1))
         lane.go(2)
         self.assertNotEqual(lane.registers, Alone(turn, Data(1)).registers)
+        change = Program([("copy", "x", "y"), ("set", "y", 1), ("go", 0)], registers=("x", "y"))
+        lane, other = Alone(change, Data()), Alone(change, Data())
+        lane.go(3)
+        self.assertEqual([lane.row, lane.many_taken, lane.registers], [0, 0, (0, 1)])
+        self.assertNotEqual(lane, other)
+        other.go(6)
+        self.assertNotEqual(lane, other)
+        lane.go(3)
+        self.assertEqual(lane, other)
         for other in (None, 1, LOOP, Data(1), Everything()):
             self.assertIs(Alone(LOOP, Data(1)) == other, False)
 

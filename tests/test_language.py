@@ -263,6 +263,33 @@ class TestLanguage(unittest.TestCase):
             self.assertEqual(methods & stored, set(), path)
             self.assertEqual(len(methods), len([p for p in node.body if isinstance(p, ast.FunctionDef)]), path)
 
+    def test_names_of_methods_are_no_names_of_attributes(self):
+        methods = {part.name for _, node in classes() for part in node.body if isinstance(part, ast.FunctionDef)}
+        stored = {node.attr for _, node in NODES if isinstance(node, ast.Attribute) and isinstance(node.ctx, ast.Store)}
+        self.assertEqual(methods & stored, set(), "L18")
+
+    def test_what_is_reversed_is_plain(self):
+        found = []
+        for path, node in NODES:
+            if isinstance(node, ast.Call) and ast.unparse(node.func) == "reversed":
+                inner = node.args[0]
+                made = isinstance(inner, ast.Call) and ast.unparse(inner.func) in ("list", "tuple", "sorted", "range")
+                if not made:
+                    found.append((path, node.lineno, ast.unparse(node)))
+        self.check("L5", found)
+
+    def test_iterators_are_not_kept(self):
+        found = []
+        for path, node in NODES:
+            if isinstance(node, (ast.Assign, ast.AugAssign, ast.Return)) and node.value is not None:
+                parts = [node.value]
+                if isinstance(node.value, ast.IfExp):
+                    parts = [node.value.body, node.value.orelse]
+                names = ("zip", "enumerate", "reversed", "range", "map", "iter")
+                found += [(path, node.lineno, ast.unparse(node)) for part in parts
+                          if isinstance(part, ast.Call) and ast.unparse(part.func) in names]
+        self.check("L23", found)
+
     def test_classes_that_are_indexed_refuse_to_be_gone_over(self):
         for path, node in classes():
             methods = {part.name for part in node.body if isinstance(part, ast.FunctionDef)}

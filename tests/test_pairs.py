@@ -279,6 +279,17 @@ class TestShown(unittest.TestCase):
         self.assertIn(state, pairs)
         self.assertEqual(error_of(self, TooLarge, lambda: pairs.shown(state)), 60)
 
+    def test_more_than_sixty_values_of_one_lane_alone(self):
+        pairs = Pairs(slow(11), "told")
+        for classes in (((2, 0), (0, 2)), ((0, 0), (2, 2)), ((2, 2), (0, 0)), ((0, 2), (2, 0))):
+            state = (11, classes[0], 11, classes[1], "both", 24)
+            self.assertEqual(error_of(self, TooLarge, lambda: pairs.shown(state)), 60)
+        pairs = Pairs(slow(10), "told")
+        one, other, _ = pairs.shown((10, (2, 0), 10, (0, 2), "both", 23))
+        self.assertTrue(len(one) == 60 and len(other) <= 50)
+        one, other, _ = pairs.shown((10, (0, 0), 10, (2, 2), "both", 23))
+        self.assertTrue(len(one) <= 50 and len(other) == 60)
+
     def test_zeros_at_the_end_are_no_values(self):
         # Behind more than sixty takes, of which only the last ones have to be zeros.
         state = (11, (0, 0), 11, (0, 2), "both", 24)
