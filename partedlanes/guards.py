@@ -5,6 +5,7 @@ from partedlanes.errors import BadNumber, BadProgram, BadRule
 from partedlanes.programs import Program
 
 MOST_STEPS = 1000
+MOST_LIMIT = 20000
 PILE_RULES = ("told", "first")
 RULES = ("told", "first", "least", "greatest")
 
@@ -31,3 +32,9 @@ def ask_most(most):
     """Refuses any value that is no number of steps that may be asked for at once."""
     if not is_between(most, 0, MOST_STEPS):
         raise BadNumber(most)
+
+
+def ask_limit(limit):
+    """Refuses any value that is no number of scenes and arrivals that a table may have."""
+    if not is_between(limit, 1, MOST_LIMIT):
+        raise BadNumber(limit)
