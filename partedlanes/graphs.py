@@ -150,3 +150,17 @@ class Graph:
     def takes(self, state, later):
         """The values that lanes 0 and 1 take in a step."""
         return self.moves.takes(state, later)
+
+
+def stuck_rows(state):
+    """The rows of the meetings that stand in a pair state."""
+    if state[4] == "stands":
+        return [state[0], state[2]]
+    if state[4] == "first stands":
+        return [state[0]]
+    return [state[2]] if state[4] == "second stands" else []
+
+
+def can_stand(graph):
+    """Whether two lanes come to a pair state in which a meeting stands."""
+    return any([len(stuck_rows(state)) > 0 for state in graph.behind])

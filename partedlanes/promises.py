@@ -53,7 +53,15 @@ class Promise:
 
 def keeps(program, rule):
     """Whether all promises of a program are kept."""
-    return len(broken_rows(program, rule)) == 0
+    return are_kept(Graph(program, rule))
+
+
+def are_kept(graph):
+    """Whether two lanes break no promise at the pair states of a graph."""
+    for row in graph.program.groups():
+        if not Ties(graph, row).kept:
+            return False
+    return True
 
 
 def broken_rows(program, rule):

@@ -180,3 +180,18 @@ def forward_program(chance, most, back=0.0, size=None):
             ("all", word, value, other), ("same", word, other), ("set", word, value), ("copy", word, other), ("end",)]
         rows.append(("take", word) if index == 0 else chance.choice(kinds))
     return Program(rows, registers=registers, values=values)
+
+
+def fellows(levels):
+    """A program whose last row needs two to the power of so many lanes; its number, too.
+
+    On each level those that are together have to take unlike values, or they go round for ever, and they then part.
+    """
+    joins = 5 * levels - 2
+    rows = []
+    for place in range(levels):
+        first, join = 5 * place, joins + levels - 2 - place
+        rows += [("take", "x"), ("same", "x", "y"), ("if", "y", 1, first + 2, first + 2),
+                 ("if", "x", 1, first + 5, join), ("go", first + 5)]
+    rows = [*rows[:joins], *[("set", "x", 0)] * (levels - 1), ("group", "a", None)]
+    return Program(rows, registers=("x", "y")), len(rows) - 1

@@ -23,13 +23,45 @@ INTERFACE = {
         "is_view": "(program, row, crowd, datas, *, rule='told')",
         "is_stand": "(program, datas, *, rule='told')",
     },
+    "stands": {"stands": "(program, rule)", "standing_rows": "(program, rule)"},
+    "marks": {
+        "marked": "(program, choice)",
+        "is_good": "(program)",
+        "least_marks": "(program)",
+        "verdicts": "(program)",
+        "views_unlike": "(program, *, limit=4000)",
+    },
+    "lengths": {
+        "Steps": "(program, *, rule='told', limit=4000)",
+        "leads": "(program, scene, *, rule='told', limit=4000)",
+        "is_ring": "(program, value, *, rule='told', limit=4000)",
+        "is_steps_table": "(program, rule, value)",
+        "lanes_for_most": "(program, *, rule='told', limit=4000)",
+        "is_longer": "(program, datas, steps, *, rule='told')",
+    },
+    "fewest": {
+        "Counted": "(program, lanes, *, rule='told', limit=4000)",
+        "is_counted_table": "(program, lanes, rule, value)",
+        "fewest_lanes": "(program, row, crowd, *, rule='told', limit=4000)",
+        "fewest_that_stand": "(program, *, rule='told', limit=4000)",
+    },
 }
 
 # The methods of classes, and what they take besides the object itself.
+SETS = {
+    "scenes": "()", "arrivals": "(scene)", "__contains__": None, "__len__": "()", "table": "()", "can_end": "()",
+    "rounds": "()",
+}
 METHODS = {
-    ("sets", "Sets"): {
-        "scenes": "()", "arrivals": "(scene)", "__contains__": None, "__len__": "()", "table": "()", "can_end": "()",
-        "rounds": "()",
+    ("sets", "Sets"): SETS,
+    ("fewest", "Counted"): SETS,
+    ("lengths", "Steps"): {
+        "is_endless": "()", "ring": "()", "__getitem__": None, "numbers": "(scene)", "table": "()",
+        "__contains__": None, "__len__": "()",
+    },
+    ("machines", "Machine"): {
+        "step": "()", "go": "(most)", "events": "()", "row_of": "(lane)", "registers_of": "(lane)", "alive": "()",
+        "__len__": "()", "state": "()", "copy": "()", "__eq__": None, "trial": "()", "pile": "()",
     },
 }
 

@@ -3,7 +3,6 @@
 import unittest
 
 from partedlanes.errors import BadNumber, BadProgram, BadRule, NoScene, TooMany
-from partedlanes.lanes import Data
 from partedlanes.machines import Machine
 from partedlanes.programs import Program
 from partedlanes.roads import unnested
@@ -22,16 +21,19 @@ EXAMPLE = Program([("take", "x"), ("if", "x", 1, 4, 5), ("group", "low", None), 
                    ("meet", "all")])
 SMALL = Program([("take", "x"), ("end",)])
 
-# Any values that are no scenes of a program with one register and two values, though some look like one.
-NO_SCENES = (
+# Any values that are no scenes of a program with one register and two values, counted or not; some look like one.
+NO_COUNTED = (
     *STRANGE, "scene", 1, True, (), [], {}, (0, 2, ZERO), (0, 2, ZERO, False, 0), [0, 2, ZERO, False],
     (False, 2, ZERO, False), (0, True, ZERO, False), (0.0, 2, ZERO, False), (0, 2, ZERO, 0), (0, 2, ZERO, None),
     (0, 2, ZERO, Everything()), (Everything(), 2, ZERO, False), (0, 2, Everything(), False), (0, 2, [(0,)], False),
-    (0, 2, ([0],), False), (0, 2, (), False), (0, 2, ((),), False), (0, 2, ((False,),), False), (0, 2, ((0.0,),), False),
+    (0, 2, ([0],), False), (0, 2, (), False), (0, 2, ((),), False), (0, 2, ((False,),), False),
+    (0, 2, ((0.0,),), False),
     (0, 2, ((0, 0),), False), (0, 2, (0,), False), (0, 2, ((2,),), False), (0, 2, ((-1,),), False),
-    (1, 2, ((1,), (0,)), False), (1, 2, ((0,), (0,)), False), (2, 2, ZERO, False), (2, 1, ZERO, False),
-    (-1, 2, ZERO, False), (0, 3, ZERO, False), (0, -1, ZERO, False), (1, 1, ZERO, False), (0, 2, (Everything(),), False),
+    (1, 2, ((1,), (0,)), False), (2, 2, ZERO, False), (2, 1, ZERO, False),
+    (-1, 2, ZERO, False), (0, 3, ZERO, False), (0, -1, ZERO, False), (1, 1, ZERO, False),
+    (0, 2, (Everything(),), False),
 )
+NO_SCENES = (*NO_COUNTED, (1, 2, ((0,), (0,)), False), (1, 2, ((0,), (1,), (1,)), False))
 
 
 def programs(many, most=11):
@@ -265,8 +267,8 @@ class TestRows(unittest.TestCase):
         self.assertNotIn((4, 6, ONE, True), table)
 
     def test_the_end_as_the_join_within_another_entry(self):
-        rows = [("take", "x"), ("if", "x", 1, 7, 8), ("take", "x"), ("if", "x", 1, 6, 9), ("group", "a", None), ("end",),
-                ("end",), ("go", 8), ("group", "b", None)]
+        rows = [("take", "x"), ("if", "x", 1, 7, 8), ("take", "x"), ("if", "x", 1, 6, 9), ("group", "a", None),
+                ("end",), ("end",), ("go", 8), ("group", "b", None)]
         table = self.table(rows)
         self.assertEqual(table[(3, 8, BOTH, True)], [()])
         self.assertEqual(table[(6, 9, ONE, True)], [()])
@@ -281,7 +283,8 @@ class TestRows(unittest.TestCase):
         self.assertNotIn((3, 4, ONE, True), table)
         rows = [("take", "x"), ("if", "x", 1, 3, 4), ("go", 4), ("go", 3), ("group", "a", None)]
         table = self.table(rows)
-        self.assertEqual([table[(2, 4, ZERO, True)], table[(3, 4, ONE, True)], table[(1, 5, BOTH, False)]], [[ZERO], [], []])
+        self.assertEqual([table[(2, 4, ZERO, True)], table[(3, 4, ONE, True)]], [[ZERO], []])
+        self.assertEqual(table[(1, 5, BOTH, False)], [])
         self.assertEqual([scene for scene in table if scene[0] == 4], [(4, 5, ZERO, False)])
 
     def test_lanes_that_end_in_an_arm(self):
@@ -312,8 +315,8 @@ class TestRows(unittest.TestCase):
         self.assertEqual([scene for scene in table if scene[1] == 3], [])
 
     def test_joins_that_do_not_nest(self):
-        rows = [("take", "x"), ("if", "x", 1, 5, 6), ("take", "x"), ("if", "x", 1, 6, 4), ("go", 6), ("go", 6), ("go", 7),
-                ("group", "a", None)]
+        rows = [("take", "x"), ("if", "x", 1, 5, 6), ("take", "x"), ("if", "x", 1, 6, 4), ("go", 6), ("go", 6),
+                ("go", 7), ("group", "a", None)]
         program = Program(rows)
         self.assertNotEqual(unnested(program, "told"), [])
         table = self.table(rows)

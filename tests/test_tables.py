@@ -41,7 +41,8 @@ class TestArguments(unittest.TestCase):
 
 class TestValues(unittest.TestCase):
     def test_no_lists(self):
-        for value in (*STRANGE, tuple(TABLE), dict((scene, arrivals) for scene, arrivals in TABLE), "table", 1, True, []):
+        by_scene = {scene: arrivals for scene, arrivals in TABLE}
+        for value in (*STRANGE, tuple(TABLE), by_scene, "table", 1, True, []):
             self.assertIs(is_table(SMALL, "told", value), False)
 
     def test_no_entries(self):

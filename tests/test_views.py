@@ -8,11 +8,10 @@ from partedlanes.errors import BadNumber, BadProgram, BadRule, TooMany
 from partedlanes.lanes import Data
 from partedlanes.machines import Machine
 from partedlanes.programs import Program
-from partedlanes.sets import Sets
 from partedlanes.views import can_stand_in_sets, is_stand, is_view, lanes_for, lanes_that_stand, results, views
 from tests.helpers import NO_INTEGERS, STRANGE, Everything, error_of, refused
 from tests.literal import chances, some_data
-from tests.literal_scenes import STEERING, Rules, forward_program
+from tests.literal_scenes import STEERING, Rules, fellows, forward_program
 from tests.test_roads import NO_PROGRAMS, NO_RULES
 from tests.test_sets import BOTH, EXAMPLE, ONE, RULES, ZERO, programs
 
@@ -50,8 +49,8 @@ def watched(program, datas, rule, most=1000):
 def rounds(ahead, row):
     """A program that does this row, at ahead + 3, when a lane takes 2: behind 21 steps for each 0 and 3 for each 1."""
     return Program([
-        *[("set", "x", 0)] * ahead, ("take", "x"), ("if", "x", 0, ahead + 4, 23 + ahead), ("if", "x", 1, ahead, 23 + ahead),
-        row, *[("set", "x", 0)] * 18, ("go", ahead)], values=3)
+        *[("set", "x", 0)] * ahead, ("take", "x"), ("if", "x", 0, ahead + 4, 23 + ahead),
+        ("if", "x", 1, ahead, 23 + ahead), row, *[("set", "x", 0)] * 18, ("go", ahead)], values=3)
 
 
 def slow(many):
@@ -62,9 +61,9 @@ def slow(many):
     """
     end = many + 11
     return Program([
-        *[("take", "x")] * many, ("if", "x", 2, many + 9, end), ("if", "y", 1, many + 7, 0), ("if", "y", 0, many + 5, 0),
-        ("copy", "y", "x"), ("go", 0), ("set", "y", 1), ("go", 0), ("set", "y", 2), ("go", 0),
-        ("group", "a", None), ("go", many + 9)], registers=("x", "y"), values=3)
+        *[("take", "x")] * many, ("if", "x", 2, many + 9, end), ("if", "y", 1, many + 7, 0),
+        ("if", "y", 0, many + 5, 0), ("copy", "y", "x"), ("go", 0), ("set", "y", 1), ("go", 0), ("set", "y", 2),
+        ("go", 0), ("group", "a", None), ("go", many + 9)], registers=("x", "y"), values=3)
 
 
 LONG = [0] * 47 + [1] * 3
@@ -240,22 +239,14 @@ class TestLanes(unittest.TestCase):
         self.assertGreater(stood, 10)
 
     def test_arms_that_need_several_lanes(self):
-        # The lanes of both arms have unlike values, or they go round for ever.
-        rows = [("take", "x"), ("if", "x", 1, 6, 9), ("take", "x"), ("same", "x", "x"), ("if", "x", 1, 4, 4), ("go", 9),
-                ("take", "x"), ("same", "x", "x"), ("if", "x", 1, 8, 8), ("group", "all", None)]
-        datas = lanes_for(Program(rows), 9, ZERO)
-        self.assertEqual(len(datas), 2)
-        rows[9:] = [("take", "x"), ("group", "all", None)]
-        rows[1] = ("if", "x", 1, 6, 9)
-        self.assertEqual(len(lanes_for(Program(rows), 10, BOTH)), 2)
-        rows[0:1] = [("take", "x"), ("same", "x", "y"), ("if", "y", 1, 2, 2)]
-        moved = [row if row[0] != "if" or place < 3 else (*row[:3], row[3] + 2, row[4] + 2) for place, row in enumerate(rows)]
-        moved = [("go", row[1] + 2) if row[0] == "go" else row for row in moved]
-        program = Program(moved, registers=("x", "y"))
-        for crowd in views(program)[12]:
-            datas = lanes_for(program, 12, crowd)
-            self.assertEqual(len(datas), 4)
-            self.assertIs(is_view(program, 12, crowd, datas), True)
+        for levels in (1, 2, 3, 4):
+            program, row = fellows(levels)
+            self.assertNotEqual(views(program)[row], [])
+            for crowd in views(program)[row]:
+                datas = lanes_for(program, row, crowd)
+                self.assertEqual(len(datas), 2 ** levels)
+                self.assertIs(is_view(program, row, crowd, datas), True)
+                self.assertIs(is_view(program, row, crowd, datas[1:]), False)
 
     def test_just_sixty_values(self):
         datas = lanes_for(slow(10), 19, APART, limit=20000)
