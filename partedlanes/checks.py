@@ -26,7 +26,7 @@ def is_whole(value):
 
 def is_between(value, least, most):
     """Whether any value is an integer from least to most."""
-    return is_whole(value) and least <= value <= most
+    return isinstance(value, int) and not isinstance(value, bool) and least <= value <= most
 
 
 def is_word(value):

@@ -83,7 +83,7 @@ class Crowds:
         return self.known_weights[(index, code)]
 
     def _place(self, index):
-        return self.program.registers.index(self.program.rows[index][1])
+        return self.program.places[self.program.rows[index][1]]
 
 
 def choices_of(units):

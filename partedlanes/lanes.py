@@ -80,7 +80,7 @@ def without_zeros(values):
 
 def fits(program, data):
     """Whether any value is data whose values are those of the program."""
-    return isinstance(data, Data) and all([value < program.size for value in data.digits])
+    return isinstance(data, Data) and max(data.digits, default=0) < program.size
 
 
 def _values_of(other):

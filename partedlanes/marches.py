@@ -28,7 +28,7 @@ class March:
     def _show(self, bunch, row, code):
         """The lanes of a bunch have taken values with which they are this crowd, 0s if they have ended."""
         program = self.plot.program
-        place = program.registers.index(program.rows[row][1])
+        place = program.places[program.rows[row][1]]
         crowd = self.plot.crowds.crowd_of(code) if code > 0 else [self.kinds[lane] for lane in bunch]
         zeros = classes_behind(program, row, crowd, (0,) * len(crowd))
         # Lanes alike but for what they take come one behind another, in both.

@@ -1,37 +1,55 @@
-"""Piles of entries (row, join, lanes): who goes on, and who waits; piles are tuples and never change."""
+"""Piles of entries (row, join, lanes): who goes on and who waits, by a rule that keeps a pile."""
+
+from partedlanes.standings import Standing
 
 
-def first_pile(program, lanes):
-    """The pile at the beginning."""
-    return ((0, program.end, lanes),)
+class Pile(Standing):
+    """A standing whose `entries` are a pile, the top one last, as it is ahead of the next step."""
 
+    def __init__(self, program, digits, joins):
+        Standing.__init__(self, program, digits)
+        self.joins = joins
+        self.entries = [(0, program.end, self.living)]
 
-def pile_behind(pile, joins, goes):
-    """The pile behind a step of the top entry; goes: a dict of its lanes and where each one goes on."""
-    row, join, lanes = pile[-1]
-    ways = sorted(set([goes[lane] for lane in lanes]))
-    if len(ways) == 1:
-        return (*pile[:-1], (ways[0], join, lanes))
-    arms = _arms(row, joins[row], lanes, goes)
-    if joins[row] == join:
-        return (*pile[:-1], *arms)
-    return (*pile[:-1], (joins[row], join, lanes), *arms)
+    def copied(self):
+        """An equal standing, which goes on by itself."""
+        made = Pile(self.program, self.digits, self.joins)
+        made.take_over(self)
+        made.entries = list(self.entries)
+        return made
 
+    def do(self):
+        """The lanes of the top entry do its row; tells it."""
+        many = len(self.living)
+        index, join, lanes = self.entries.pop()
+        arms = self.done(index, lanes)
+        if len(arms) > 1:
+            # Where the join of the entry is that of the branch, nobody has to wait for the arms in an entry below.
+            if self.joins[index] != join:
+                self.entries.append((self.joins[index], join, lanes))
+            join = self.joins[index]
+        for later, arm in arms[::-1]:
+            self.entries.append((later, join, self.move(later, arm)))
+        if len(self.living) < many:
+            self.entries = [(row, rejoin, self._alive_of(some)) for row, rejoin, some in self.entries]
+        self._settle()
+        return ("done", index, lanes)
 
-def _arms(row, join, lanes, goes):
-    top = tuple([lane for lane in lanes if goes[lane] == row + 1])
-    rest = tuple([lane for lane in lanes if goes[lane] != row + 1])
-    return ((goes[rest[0]], join, rest), (row + 1, join, top))
+    def _alive_of(self, lanes):
+        return tuple([lane for lane in lanes if lane in self.living])
 
+    def _settle(self):
+        """Takes off entries that are over, and looks whether the top one goes on."""
+        entries = self.entries
+        row, join, lanes = entries[-1]
+        while len(entries) > 1 and (row == join or len(lanes) == 0):
+            entries.pop()
+            row, join, lanes = entries[-1]
+        if len(lanes) == 0:
+            self.condition = "over"
+        elif self.program.rows[row][0] == "meet" and len(lanes) < len(self.living):
+            self.condition = "stands"
 
-def settled(pile, alive):
-    """The pile ahead of a step: only lanes that are alive are in it, and entries that are over are taken off."""
-    left = [(row, join, tuple([lane for lane in lanes if lane in alive])) for row, join, lanes in pile]
-    while len(left) > 1 and _is_over(left[-1]):
-        left.pop()
-    return tuple(left)
-
-
-def _is_over(entry):
-    row, join, lanes = entry
-    return len(lanes) == 0 or row == join
+    def told_pile(self):
+        """The entries, the top one last."""
+        return list(self.entries)

@@ -24,6 +24,9 @@ class Program:
         self.size = values
         self.rows = tuple(rows)
         self.end = len(rows)
+        self.places = {word: place for place, word in enumerate(registers)}
+        # For each register and value: what each class becomes if the register gets the value.
+        self.changed = {word: self._changed_at(place) for word, place in self.places.items()}
 
     def __eq__(self, other):
         return (
@@ -86,6 +89,12 @@ class Program:
         if row[0] == "end":
             return [self.end]
         return [index + 1]
+
+    def _changed_at(self, place):
+        kinds = self.classes()
+        return [
+            {kind: (*kind[:place], value, *kind[place + 1:]) for kind in kinds} for value in range(self.size)
+        ]
 
     def with_row(self, index, row):
         """A program with another row."""

@@ -2,7 +2,10 @@
 
 
 class Trial:
-    """For one `with`: gives a copy of its holder, which is then as the copy is, if that is kept."""
+    """For one `with`: gives a copy of its holder, which is then as the copy is, if that is kept.
+
+    Holders have a `standing`, which two of them may share: one that is `shared` makes its own ahead of a change.
+    """
 
     def __init__(self, holder):
         self.holder = holder
@@ -14,4 +17,6 @@ class Trial:
 
     def __exit__(self, kind, value, trace):
         if kind is None and self.work.keep is not None:
-            self.holder.now = self.work.now
+            self.holder.standing = self.work.standing
+            self.holder.shared = True
+            self.work.shared = True

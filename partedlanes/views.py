@@ -1,6 +1,6 @@
 """What groups can see: the crowds that rows see, with lanes that show it."""
 
-from partedlanes.acts import classes_behind
+from partedlanes.acts import told_by
 from partedlanes.checks import is_whole
 from partedlanes.crowds import is_crowd
 from partedlanes.errors import BadNumber
@@ -21,14 +21,9 @@ def results(program, *, rule="told", limit=4000):
     """A dict of all rows that steer, ascending, and what registers can get by each one, ascending."""
     sets = Sets(program, rule=rule, limit=limit)
     return {
-        row: sorted(set([_result(program, row, crowd) for crowd in _seen_by(sets, row)]))
+        row: sorted(set([told_by(program, program.rows[row], crowd) for crowd in _seen_by(sets, row)]))
         for row in program.steering()
     }
-
-
-def _result(program, row, crowd):
-    kinds = classes_behind(program, row, crowd, (0,) * len(crowd))
-    return kinds[0][program.registers.index(program.rows[row][-1])]
 
 
 def can_stand_in_sets(program, *, rule="told", limit=4000):

@@ -21,7 +21,7 @@ class Weave:
     def _visited(self, bunch, row):
         """New nodes for all classes of a bunch that does a row, as a dict."""
         word = self.plot.program.rows[row]
-        place = self.plot.program.registers.index(word[1]) if word[0] == "take" else None
+        place = self.plot.program.places[word[1]] if word[0] == "take" else None
         made = {}
         for kind, nodes in bunch.items():
             made[kind] = len(self.kinds)

@@ -1,5 +1,6 @@
 """[2], [3], [9], [10] and [11]: machines."""
 
+import time
 import unittest
 
 from partedlanes.errors import BadData, BadKind, BadMachine, BadNumber, BadProgram, BadRule, NoLane
@@ -531,6 +532,103 @@ class TestByRows(unittest.TestCase):
         self.assertEqual(told[2:], [(2, (1,)), (3, (0, 2)), (4, (0, 1, 2)), "over"])
         told, _ = self.run_rows(rows, [Data(1), Data(0), Data(1)], "greatest")
         self.assertEqual(told[2:], [(3, (0, 2)), (4, (0, 2)), (2, (1,)), (4, (1,)), "over"])
+
+
+class TestManySteps(unittest.TestCase):
+    PROGRAM = Program([("take", "x"), ("if", "x", 1, 4, 5), ("group", "low", None), ("go", 5), ("group", "high", None),
+                       ("if", "x", 0, 0, 0), ("go", 0)])
+    DATAS = [Data(*[0, 1] * 25) for _ in range(6)]
+
+    def machine(self, rule):
+        return Machine(self.PROGRAM, self.DATAS, rule=rule)
+
+    def told(self, machine):
+        """All that can be asked of a machine."""
+        lanes = range(len(machine))
+        return [
+            [machine.row_of(lane) for lane in lanes], [machine.registers_of(lane) for lane in lanes], machine.alive(),
+            machine.state(), machine.pile(), machine.events(), len(machine), machine.datas, machine.rule,
+        ]
+
+    def test_steps_beside_machines_that_go_at_once(self):
+        for rule in RULES:
+            others = [self.machine(rule) for _ in range(101)]
+            steps = [other.go(many) for many, other in enumerate(others)]
+            expected = [self.told(other) for other in others]
+            for _ in range(100):
+                machine = self.machine(rule)
+                self.assertEqual(self.told(machine), expected[0])
+                for many in range(1, 101):
+                    self.assertEqual(machine.step(), steps[many][-1])
+                    self.assertEqual(self.told(machine), expected[many])
+                    self.assertTrue(machine == others[many] and machine != others[many - 1])
+
+    def test_any_machines_beside_the_words_of_the_document(self):
+        for chance in chances(60):
+            program = some_program(chance, 14, chance.choice([(), ("any", "all", "same")]))
+            for rule in RULES:
+                datas = [some_data(chance, program.size, 12) for _ in range(chance.randint(1, 7))]
+                machine = Machine(program, datas, rule=rule)
+                lanes = Lanes(program, datas, rule, joins_of(program, rule) if rule in ("told", "first") else {})
+                events = []
+                for _ in range(100):
+                    done = lanes.step()
+                    self.assertEqual(machine.step(), done, (program.rows, rule))
+                    if done[0] == "done" and program.rows[done[1]][0] in ("group", "meet", "any", "all", "same"):
+                        events.append(done[1:])
+                    self.assertEqual([machine.row_of(lane) for lane in range(len(datas))], lanes.row)
+                    self.assertEqual([machine.registers_of(lane) for lane in range(len(datas))],
+                                     [lanes.registers(lane) for lane in range(len(datas))])
+                    self.assertEqual([machine.events(), machine.alive()], [events, tuple(lanes.alive())])
+                    if rule in ("told", "first") and lanes.alive():
+                        self.assertEqual(machine.pile(), [(row, join, tuple(some)) for row, join, some in lanes.pile])
+
+    def test_copies_of_copies_go_on_by_themselves(self):
+        for rule in RULES:
+            machines, done = [self.machine(rule)], [0]
+            for many in range(12):
+                machines.append(machines[-1].copy())
+                done.append(done[-1])
+                machines[many].go(many)
+                done[many] += many
+                machines[-1].step()
+                done[-1] += 1
+                with machines[-1].trial() as work:
+                    work.go(3)
+                    work.keep = True if many > 5 else None
+                done[-1] += 3 if many > 5 else 0
+                work.go(50)
+            for machine, many in zip(machines, done):
+                other = self.machine(rule)
+                other.go(many)
+                self.assertEqual(self.told(machine), self.told(other))
+                self.assertEqual(machine, other)
+
+    def steps_of_all(self):
+        """How long the steps of 400 machines take."""
+        spent = 0
+        for rule in RULES:
+            machines = [self.machine(rule) for _ in range(100)]
+            start = time.perf_counter()
+            for machine in machines:
+                for _ in range(100):
+                    machine.step()
+            spent += time.perf_counter() - start
+        return spent
+
+    def plain_work(self):
+        """How long as many turns of plain work with six lanes take, which tells how fast all goes here."""
+        places, lanes = [0] * 6, tuple(range(6))
+        start = time.perf_counter()
+        for number in range(1, 40001):
+            for lane in tuple([lane for lane in lanes if places[lane] != number]):
+                places[lane] = number
+        return time.perf_counter() - start
+
+    def test_time_of_many_steps(self):
+        # A step takes about as long as four such turns; one that took ten times as long would be too long by far.
+        times = [(self.plain_work(), self.steps_of_all()) for _ in range(5)]
+        self.assertLess(min(steps for _, steps in times), 14 * min(plain for plain, _ in times))
 
 
 if __name__ == "__main__":
