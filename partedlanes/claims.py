@@ -2,6 +2,7 @@
 
 from partedlanes.crowds import is_crowd
 from partedlanes.plots import is_scene
+from partedlanes.unions import Unions, arrivals_of_kind, grouped
 
 
 class Claims:
@@ -15,6 +16,7 @@ class Claims:
         self.lengths = lengths
         self.told_numbers = numbers
         self.opened = {}
+        self.unions = Unions(plot.crowds.counted)
 
     def told(self, scene):
         """What is told of a scene, (length, numbers), or None; an open scene has just what it has to have."""
@@ -65,18 +67,23 @@ class Claims:
         if firsts is None:
             return None
         length = 1 + firsts[0]
-        counted = self.plot.crowds.counted
         sums = {}
-        for first, number in firsts[1].items():
-            seconds = self._told_of(self.plot.second_arm(scene, first))
-            if seconds is None:
-                return None
-            length = max(length, 1 + number + seconds[0])
-            for second, more in seconds[1].items():
-                both = first + second if counted else first | second
-                if both not in sums or sums[both][0] < number + more:
-                    sums[both] = (number + more, first, second)
+        for ended in (True, False):
+            some = arrivals_of_kind(firsts[1], ended)
+            if len(some) > 0:
+                seconds = self._told_of(self.plot.second_arm(scene, 0 if ended else 1))
+                if seconds is None:
+                    return None
+                length = max(length, 1 + max(list(some.values())) + seconds[0])
+                self._add_sums(sums, some, seconds[1])
         return (length, sums)
+
+    def _add_sums(self, sums, firsts, seconds):
+        for number, some in grouped(firsts).items():
+            for more, others in grouped(seconds).items():
+                for both, arms in self.unions.union(some, others).items():
+                    if both not in sums or sums[both][0] < number + more:
+                        sums[both] = (number + more, *arms)
 
 
 def read_arrivals(plot, value):

@@ -3,6 +3,8 @@
 from heapq import heappop, heappush
 
 from partedlanes.errors import TooMany
+from partedlanes.joints import Joint
+from partedlanes.unions import arrivals_of_kind
 
 # What a step costs: so much that of ways with as few steps that with the least crowds costs least.
 STEP = 1000000
@@ -13,6 +15,9 @@ class Least:
 
     `sure` is a dict of all scenes, each with a dict of its arrivals and their least costs, those of the arms counted.
     Arrivals are settled by their costs, cheapest first, so that a settled one never becomes cheaper.
+
+    The *source* of an arm is what comes of it in the end, as long as only one thing can come; arms have the arrivals of
+    their sources. Scenes that part in arms of the same sources share a joint, in which these are paired once for all.
     """
 
     def __init__(self, plot, start, limit):
@@ -23,10 +28,12 @@ class Least:
         self.many = 0
         self.sure = {}
         self.costs = {}
-        self.sums = {}
         self.holders = {}
-        self.first_of = {}
-        self.second_of = {}
+        self.parting = {}
+        self.joints = {}
+        self.joints_of = {}
+        self.first_joints = {}
+        self.second_joints = {}
         self.fresh = []
         self.queue = []
         self._need(start)
@@ -55,8 +62,10 @@ class Least:
             self.sure[scene] = {}
             self.costs[scene] = {}
             self.holders[scene] = {}
-            self.first_of[scene] = []
-            self.second_of[scene] = {}
+            self.parting[scene] = []
+            self.joints_of[scene] = []
+            self.first_joints[scene] = []
+            self.second_joints[scene] = []
             self.fresh.append(scene)
 
     def _go_on(self, scene):
@@ -64,15 +73,12 @@ class Least:
             for later in self.plot.comings(scene):
                 self._lead(scene, later, self.weight(scene, later))
             return
-        self.sums[scene] = {}
-        first = self.plot.first_arm(scene)
-        if isinstance(first, int):
-            self._see_first(scene, first, 0)
-        else:
-            self._need(first)
-            self.first_of[first].append(scene)
-            for arrival, cost in list(self.sure[first].items()):
-                self._see_first(scene, arrival, cost)
+        source, ahead = self._source_of(self.plot.first_arm(scene))
+        if not isinstance(source, int):
+            self.parting[source].append((scene, ahead))
+        for ended in (True, False):
+            if len(arrivals_of_kind(self._arrivals_of(source), ended)) > 0:
+                self._join(scene, source, ahead, ended)
 
     def weight(self, scene, later):
         """What the step from a scene whose lanes do not part costs."""
@@ -87,9 +93,11 @@ class Least:
             self._offer(scene, later, ahead)
             return
         self._need(later)
-        self.holders[later][scene] = ahead
-        for arrival, cost in list(self.sure[later].items()):
-            self._offer(scene, arrival, ahead + cost)
+        holders = self.holders[later]
+        if scene not in holders or ahead < holders[scene]:
+            holders[scene] = ahead
+            for arrival, cost in list(self.sure[later].items()):
+                self._offer(scene, arrival, ahead + cost)
 
     def _offer(self, scene, arrival, cost):
         costs = self.costs[scene]
@@ -100,45 +108,67 @@ class Least:
             heappush(self.queue, (cost, scene, arrival))
 
     def _tell_others(self, scene, arrival, cost):
+        """An arrival of a scene is settled."""
+        ended = arrival == 0
         for holder, ahead in list(self.holders[scene].items()):
             self._offer(holder, arrival, ahead + cost)
-        for holder in list(self.first_of[scene]):
-            self._see_first(holder, arrival, cost)
-        for holder, firsts in list(self.second_of[scene].items()):
-            self._pair(holder, firsts, {arrival: cost})
+        for joint in list(self.first_joints[scene]):
+            if joint.ended == ended:
+                self._lead_on(joint, joint.see_firsts({arrival: cost}))
+        for joint in list(self.second_joints[scene]):
+            self._lead_on(joint, joint.see_seconds({arrival: cost}))
+        if len(self.parting[scene]) > 0 and len(arrivals_of_kind(self.sure[scene], ended)) == 1:
+            for holder, ahead in list(self.parting[scene]):
+                self._join(holder, scene, ahead, ended)
 
-    def _see_first(self, scene, first, cost):
-        """The first arm of a scene can come to its end with a crowd."""
-        second = self.plot.second_arm(scene, first)
-        if isinstance(second, int):
-            self._pair(scene, {first: cost}, {second: 0})
-        else:
-            self._need(second)
-            firsts = self.second_of[second]
-            if scene not in firsts:
-                firsts[scene] = {}
-            firsts[scene][first] = cost
-            self._pair(scene, {first: cost}, self.sure[second])
+    def _arrivals_of(self, source):
+        return {source: 0} if isinstance(source, int) else self.sure[source]
 
-    def _pair(self, scene, firsts, seconds):
-        """Both arms of a scene can come to their ends with each of these, which are dicts of their costs."""
-        sums = self.sums[scene]
-        counted = self.plot.crowds.counted
-        better = {}
-        for first, cost in firsts.items():
-            for second, more in seconds.items():
-                both = first + second if counted else first | second
-                if both not in sums or cost + more < sums[both][0]:
-                    sums[both] = (cost + more, first, second)
-                    better[both] = True
-        for both in better:
-            self._lead(scene, self.plot.rest(scene, both), self.stride + sums[both][0])
+    def _source_of(self, later):
+        """The source of an arm, and what the way there costs."""
+        ahead = 0
+        passed = {}
+        while not isinstance(later, int) and later not in passed:
+            self._need(later)
+            passed[later] = True
+            comings = [] if self.plot.parts(later) else self.plot.comings(later)
+            if len(comings) == 1:
+                ahead += self.weight(later, comings[0])
+                later = comings[0]
+        return (later, ahead)
+
+    def _join(self, scene, source, ahead, ended):
+        """The first arm of a scene can come to its end, with all its lanes ended or not; so there is the second one."""
+        other, more = self._source_of(self.plot.second_arm(scene, 0 if ended else 1))
+        if (source, other, ended) not in self.joints:
+            self._make_joint(source, other, ended)
+        joint = self.joints[(source, other, ended)]
+        joint.holders[scene] = self.stride + ahead + more
+        self.joints_of[scene].append(joint)
+        for both in list(joint.sums):
+            self._lead(scene, self.plot.rest(scene, both), joint.cost(scene, both))
+
+    def _make_joint(self, source, other, ended):
+        joint = Joint(ended, self.plot.crowds.counted)
+        self.joints[(source, other, ended)] = joint
+        joint.see_firsts(arrivals_of_kind(self._arrivals_of(source), ended))
+        joint.see_seconds(self._arrivals_of(other))
+        if not isinstance(source, int):
+            self.first_joints[source].append(joint)
+        if not isinstance(other, int):
+            self.second_joints[other].append(joint)
+
+    def _lead_on(self, joint, codes):
+        """Scenes that part come to the ends of both arms with these crowds together."""
+        for holder in list(joint.holders):
+            for both in codes:
+                self._lead(holder, self.plot.rest(holder, both), joint.cost(holder, both))
 
     def nexts(self, scene):
         """Tuples (cost, what comes, arms) of a scene: arms are the crowds of both arms, () if lanes do not part."""
         if not self.plot.parts(scene):
             return [(self.weight(scene, later), later, ()) for later in self.plot.comings(scene)]
         return [
-            (self.stride + cost, self.plot.rest(scene, both), (first, second))
-            for both, (cost, first, second) in self.sums[scene].items()
+            (joint.cost(scene, both), self.plot.rest(scene, both), joint.sums[both][1:])
+            for joint in self.joints_of[scene] for both in joint.sums
         ]

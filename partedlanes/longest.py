@@ -2,6 +2,7 @@
 
 from partedlanes.claims import Claims
 from partedlanes.treks import ways
+from partedlanes.unions import arrivals_of_kind, grouped
 
 
 class Longest:
@@ -65,11 +66,12 @@ class Longest:
         tails = {}
         for wait, later in comings:
             if isinstance(later, int):
-                tails[later] = max(tails.get(later, 0), wait)
+                told = {later: wait if later > 0 else 0}
             else:
                 self._see_wait(later, wait)
-                for arrival, tail in self.tails[later].items():
-                    tails[arrival] = max(tails.get(arrival, 0), tail)
+                told = self.tails[later]
+            for arrival, tail in told.items():
+                tails[arrival] = max(tails.get(arrival, 0), tail)
         return tails
 
     def _see_wait(self, scene, wait):
@@ -79,25 +81,27 @@ class Longest:
 
     def _waits_of_arms(self, scene):
         """A dict of the crowds of both arms together, and how long lanes of them can have waited when both are over."""
-        counted = self.plot.crowds.counted
-        numbers, tails = self._told_of_arm(self.plot.first_arm(scene), 0)
+        firsts = self._told_of_arm(self.plot.first_arm(scene), 0)
         waits = {}
-        for first, number in numbers.items():
-            second_arm = self.plot.second_arm(scene, first)
-            if not isinstance(second_arm, int):
-                self._see_wait(second_arm, number)
-            others, other_tails = self._told_of_arm(second_arm, number)
-            for second, more in others.items():
-                both = first + second if counted else first | second
-                wait = tails[first] + more if first > 0 else 0
-                waits[both] = max(waits.get(both, 0), wait, other_tails[second] if second > 0 else 0)
+        for ended in (True, False):
+            for (number, tail), some in grouped(arrivals_of_kind(firsts, ended)).items():
+                arm = self.plot.second_arm(scene, 0 if ended else 1)
+                if not isinstance(arm, int):
+                    self._see_wait(arm, number)
+                for (more, other_tail), others in grouped(self._told_of_arm(arm, number)).items():
+                    wait = max(other_tail, 0 if ended else tail + more)
+                    for both in self.claims.unions.union(some, others):
+                        waits[both] = max(waits.get(both, 0), wait)
         return waits
 
     def _told_of_arm(self, arm, waited):
-        """The numbers of an arm, and how long its lanes have waited at its end, if they waited so long ahead of it."""
+        """A dict of the arrivals of an arm: the number of each, and how long its lanes have waited when it is over.
+
+        waited: how long they waited ahead of it, which counts if they are at its end at once.
+        """
         if isinstance(arm, int):
-            return ({arm: 0}, {arm: waited})
-        return (self.sure[arm], self.tails[arm])
+            return {arm: (0, waited if arm > 0 else 0)}
+        return {arrival: (self.sure[arm][arrival], self.tails[arm][arrival]) for arrival in self.sure[arm]}
 
 
 def ordered(start, leads):

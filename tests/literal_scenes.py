@@ -182,6 +182,12 @@ def forward_program(chance, most, back=0.0, size=None):
     return Program(rows, registers=registers, values=values)
 
 
+def many_pairs():
+    """A program whose arms have hundreds of arrivals each, at hundreds of scenes."""
+    return Program([("take", "x"), ("take", "y"), ("if", "x", 1, 5, 7), ("take", "x"), ("go", 7), ("take", "y"),
+                    ("take", "x"), ("group", "a", None)], registers=("x", "y"), values=3)
+
+
 def fellows(levels):
     """A program whose last row needs two to the power of so many lanes; its number, too.
 

@@ -12,7 +12,7 @@ from partedlanes.programs import Program
 from partedlanes.sets import Sets
 from tests.helpers import NO_INTEGERS, STRANGE, Everything, error_of, refused
 from tests.literal import chances, some_data
-from tests.literal_scenes import Rules, forward_program
+from tests.literal_scenes import Rules, forward_program, many_pairs
 from tests.test_roads import NO_PROGRAMS, NO_RULES
 from tests.test_sets import BOTH, EXAMPLE, NO_SCENES, ONE, RULES, SMALL, ZERO, programs
 from tests.test_tables import some_crowd, with_place
@@ -479,6 +479,12 @@ class TestIsLonger(unittest.TestCase):
 
 
 class TestTime(unittest.TestCase):
+    def test_a_program_whose_arms_have_many_arrivals(self):
+        steps = Steps(many_pairs(), limit=20000)
+        # Two takes, the branch, two rows of each arm, and the group operation.
+        self.assertEqual([steps.greatest, steps.wait], [8, 2])
+        self.assertIs(is_steps_table(many_pairs(), "told", steps.table()), True)
+
     def test_any_programs_of_24_rows(self):
         for chance in chances(10):
             program = forward_program(chance, 24, chance.choice([0, 0, 0.1]), (("x", "y"), 3))

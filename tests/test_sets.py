@@ -12,7 +12,7 @@ from partedlanes.treks import carry
 from partedlanes.weaves import Weave
 from tests.helpers import NO_INTEGERS, STRANGE, Everything, error_of, refused
 from tests.literal import chances, some_data, some_program
-from tests.literal_scenes import STEERING, Rules, forward_program
+from tests.literal_scenes import STEERING, Rules, forward_program, many_pairs
 from tests.test_roads import NO_PROGRAMS, NO_RULES
 
 RULES = ("told", "first")
@@ -410,8 +410,10 @@ class TestTime(unittest.TestCase):
             # All 511 crowds come to each row.
             self.assertEqual(len(Sets(Program(loop, **wide), rule=rule, limit=20000)), 24 * 511)
             self.assertEqual(error_of(self, TooMany, lambda: Sets(Program(loop, **wide), rule=rule)), 4000)
-        arms = [("take", "x"), ("take", "y"), ("if", "x", 1, 5, 6), ("take", "x"), ("go", 6), ("take", "x"), ("go", 0)]
-        self.assertGreater(len(Sets(Program(arms, **wide), limit=20000)), 3000)
+
+    def test_a_program_whose_arms_have_many_arrivals(self):
+        for rule in RULES:
+            self.assertGreater(len(Sets(many_pairs(), rule=rule, limit=20000)), 2000)
 
     def test_any_programs_of_24_rows(self):
         for chance in chances(12):

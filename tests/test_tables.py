@@ -7,7 +7,7 @@ from partedlanes.programs import Program
 from partedlanes.sets import Sets
 from partedlanes.tables import is_table
 from tests.helpers import STRANGE, Everything, refused
-from tests.literal_scenes import Rules
+from tests.literal_scenes import Rules, many_pairs
 from tests.test_roads import NO_PROGRAMS, NO_RULES
 from tests.test_sets import BOTH, EXAMPLE, NO_SCENES, ONE, RULES, SMALL, ZERO, programs
 
@@ -148,6 +148,11 @@ class TestAny(unittest.TestCase):
     def test_tables_of_sets(self):
         for _, program, rule in programs(100):
             self.assertIs(is_table(program, rule, Sets(program, rule=rule).table()), True)
+
+    def test_a_program_whose_arms_have_many_arrivals(self):
+        table = Sets(many_pairs(), limit=20000).table()
+        self.assertIs(is_table(many_pairs(), "told", table), True)
+        self.assertIs(is_table(many_pairs(), "told", table[:-1]), False)
 
     def test_with_something_left_out(self):
         for chance, program, rule in programs(100):
