@@ -81,7 +81,7 @@ class Claims:
     def _add_sums(self, sums, firsts, seconds):
         for number, some in grouped(firsts).items():
             for more, others in grouped(seconds).items():
-                for both, arms in self.unions.union(some, others).items():
+                for both, arms in self.unions.together(some, others).items():
                     if both not in sums or sums[both][0] < number + more:
                         sums[both] = (number + more, *arms)
 

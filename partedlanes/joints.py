@@ -20,17 +20,17 @@ class Joint:
         """What it costs a scene to come to the ends of both arms with such a crowd."""
         return self.holders[holder] + self.sums[both][0]
 
-    def see_firsts(self, firsts):
+    def see_firsts(self, arrivals):
         """These crowds come of the first source, too; tells all sums of which the costs have changed."""
-        for first in firsts:
-            self.firsts[first] = firsts[first]
-        return self._paired(firsts, self.seconds)
+        for arrival in arrivals:
+            self.firsts[arrival] = arrivals[arrival]
+        return self._paired(arrivals, self.seconds)
 
-    def see_seconds(self, seconds):
+    def see_seconds(self, arrivals):
         """The same for the second source."""
-        for second in seconds:
-            self.seconds[second] = seconds[second]
-        return self._paired(self.firsts, seconds)
+        for arrival in arrivals:
+            self.seconds[arrival] = arrivals[arrival]
+        return self._paired(self.firsts, arrivals)
 
     def _paired(self, firsts, seconds):
         sums, counted = self.sums, self.counted

@@ -90,7 +90,7 @@ class Longest:
                     self._see_wait(arm, number)
                 for (more, other_tail), others in grouped(self._told_of_arm(arm, number)).items():
                     wait = max(other_tail, 0 if ended else tail + more)
-                    for both in self.claims.unions.union(some, others):
+                    for both in self.claims.unions.together(some, others):
                         waits[both] = max(waits.get(both, 0), wait)
         return waits
 

@@ -10,7 +10,7 @@ class March:
         self.plot = plot
         self.bunches = [list(range(lanes))]
         self.kinds = [first_class(plot.program)] * lanes
-        self.values = [[] for _ in range(lanes)]
+        self.drawn = [[] for _ in range(lanes)]
 
     def do(self, scene, code):
         """The top bunch does its row."""
@@ -36,7 +36,7 @@ class March:
         kinds = sorted([(zero, kind) for zero, kind in zip(zeros, crowd)])
         for (_, lane), (_, kind) in zip(lanes, kinds):
             self.kinds[lane] = kind
-            self.values[lane].append(kind[place])
+            self.drawn[lane].append(kind[place])
 
     def part(self, scene):
         """The top bunch does its branch and parts."""
@@ -61,4 +61,4 @@ class March:
 
     def takings(self):
         """What each of the lanes takes: lists of values, one for each lane."""
-        return [list(values) for values in self.values]
+        return [list(values) for values in self.drawn]

@@ -8,7 +8,7 @@ class Unions:
         self.counted = counted
         self.known = {}
 
-    def union(self, firsts, seconds):
+    def together(self, firsts, seconds):
         """A dict of all crowds that one of some and one of others are together, each with two such crowds.
 
         firsts and seconds are tuples; the dict is not to be changed.

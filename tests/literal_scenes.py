@@ -188,6 +188,16 @@ def many_pairs():
                     ("take", "x"), ("group", "a", None)], registers=("x", "y"), values=3)
 
 
+def leavers(way, value):
+    """A program in which those that take this value leave by a row and end, ahead of row 8; some have to, and some not.
+
+    Rows 9 and 10 come to the end, too, which is row 11; rows 5 and 6 make all lanes alike.
+    """
+    return Program([("take", "x"), ("same", "x", "y"), ("if", "y", 1, 2, 2), ("if", "x", value, way, 5), ("go", 5),
+                    ("set", "x", 0), ("set", "y", 0), ("take", "x"), ("group", "a", None), ("go", 10), ("end",)],
+                   registers=("x", "y"))
+
+
 def fellows(levels):
     """A program whose last row needs two to the power of so many lanes; its number, too.
 

@@ -14,7 +14,7 @@ from partedlanes.sets import Sets
 from partedlanes.views import can_stand_in_sets, is_stand, is_view, lanes_for, views
 from tests.helpers import NO_INTEGERS, STRANGE, Everything, error_of, refused
 from tests.literal import chances, some_data
-from tests.literal_scenes import Rules, fellows, forward_program
+from tests.literal_scenes import Rules, fellows, forward_program, leavers
 from tests.test_roads import NO_PROGRAMS, NO_RULES
 from tests.test_sets import BOTH, EXAMPLE, NO_COUNTED, ONE, SMALL, ZERO, arrivals_seen, programs
 from tests.test_tables import with_place
@@ -302,6 +302,13 @@ class TestFewest(unittest.TestCase):
                 ("meet", "a"), ("go", 7), ("end",)]
         found, datas = fewest_that_stand(Program(rows))
         self.assertEqual([found, is_stand(Program(rows), datas)], [3, True])
+
+    def test_lanes_that_have_to_leave(self):
+        for way, value in ((9, 0), (9, 1), (10, 0), (10, 1), (11, 0), (11, 1)):
+            program = leavers(way, value)
+            for crowd in views(program)[8]:
+                found, datas = fewest_lanes(program, 8, crowd)
+                self.assertEqual([found, is_view(program, 8, crowd, datas)], [1 + len(crowd), True])
 
     def test_any_value_for_the_crowd(self):
         for crowd in NO_CROWDS:

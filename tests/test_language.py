@@ -176,6 +176,16 @@ class TestLanguage(unittest.TestCase):
                 found.append((path, node.lineno, node.attr))
         self.check("L8, L17, L26", found)
 
+    def test_names_of_builtin_methods_stay_free(self):
+        taken = {name for kind in (str, int, list, dict, set, bytes, tuple) for name in dir(kind) if name[:2] != "__"}
+        found = [(path, part.lineno, part.name) for path, node in classes() for part in node.body
+                 if isinstance(part, ast.FunctionDef) and part.name in taken - METHODS]
+        attributes = set("count index title find get join lower upper split strip copy add".split())
+        found += [(path, node.lineno, node.attr) for path, node in NODES
+                  if isinstance(node, ast.Attribute) and isinstance(node.ctx, ast.Store)
+                  and node.attr in taken - attributes]
+        self.check("L26", found)
+
     def test_names_of_files_stay_free(self):
         found = []
         for path, tree in TREES.items():

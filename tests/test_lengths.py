@@ -122,7 +122,20 @@ class TestSteps(unittest.TestCase):
         rows[3] = ("go", 5)
         self.assertEqual(Steps(Program(rows)).wait, 2)
         rows[4] = ("meet", "a")
-        self.assertEqual(Steps(Program(rows)).wait, 0)
+        steps = Steps(Program(rows))
+        self.assertEqual([steps.wait, steps[(1, 6, BOTH, False)]], [0, 3])
+
+    def test_a_second_arm_that_stands(self):
+        rows = [("take", "x"), ("if", "x", 1, 4, 7), ("take", "x"), ("go", 7), ("take", "x"), ("meet", "a"), ("go", 7),
+                ("end",)]
+        steps = Steps(Program(rows))
+        # The branch, two rows of the first arm, and one of the second arm, whose lanes have waited for two.
+        self.assertEqual([steps.wait, steps[(1, 8, BOTH, False)], steps[(4, 7, ONE, True)]], [2, 4, 1])
+        table = steps.table()
+        place = [entry[0] for entry in table].index((1, 8, BOTH, False))
+        for length, expected in ((3, False), (4, True)):
+            table[place] = (table[place][0], length, [])
+            self.assertIs(is_steps_table(Program(rows), "told", table), expected)
 
     def test_lanes_that_end_do_not_wait(self):
         rows = [("take", "x"), ("if", "x", 1, 4, 6), ("end",), ("end",), ("take", "x"), ("take", "x")]

@@ -344,6 +344,20 @@ class TestTrials(unittest.TestCase):
         machine.go(7)
         self.assertEqual([len(machine.events()), len(work.events())], [6, 4])
 
+    def test_a_machine_that_does_steps_during_its_trial(self):
+        for rule in RULES:
+            machine, expected = example(rule), example(rule)
+            with machine.trial() as work:
+                machine.go(2)
+                work.go(4)
+            expected.go(4)
+            self.assertEqual([machine == expected, machine.pile()], [True, expected.pile()])
+            machine.step()
+            self.assertEqual([work == expected, work.pile()], [True, expected.pile()])
+            work.go(9)
+            expected.step()
+            self.assertEqual([machine == expected, machine.pile()], [True, expected.pile()])
+
     def test_a_trial_within_a_trial(self):
         machine = example()
         with machine.trial() as work:

@@ -131,17 +131,22 @@ class TestTables(unittest.TestCase):
             self.assertIs(is_table(EXAMPLE, "told", with_place(table, place, (scene, arrivals[1:]))), False)
 
     def test_the_end_as_the_join_of_an_entry(self):
-        # Both arms come to the end; what is told of them besides would come together.
+        # Both arms come to the end; a table may tell that lanes come to it that have not ended.
         program = Program([("take", "x"), ("if", "x", 1, 3, 4), ("end",), ("end",)])
-        table = Sets(program).table()
-        arms = {(2, 4, ZERO, True): [(), ZERO], (3, 4, ONE, False): [(), ONE]}
-        greater = [(scene, arms.get(scene, arrivals)) for scene, arrivals in table]
-        self.assertIs(is_table(program, "told", greater), Rules(program, "told").is_table(dict(greater)))
-        self.assertIs(is_table(program, "told", greater), False)
-        crowds = [(), ZERO, ONE, BOTH]
-        greater = [(scene, arms.get(scene, crowds)) for scene, arrivals in table]
-        greater.append(((3, 4, ONE, True), [(), ONE]))
-        self.assertIs(is_table(program, "told", greater), True)
+        table = dict(Sets(program).table())
+        table[(2, 4, ZERO, True)] = [(), ZERO]
+        self.check_beside_the_words(program, table, False)
+        # So the second arm may have lanes outside, too, and what both come to together is what the branch comes to.
+        table[(3, 4, ONE, True)] = [()]
+        self.check_beside_the_words(program, table, False)
+        for scene in table:
+            if scene[0] < 2:
+                table[scene] = [(), ZERO]
+        self.check_beside_the_words(program, table, True)
+
+    def check_beside_the_words(self, program, table, expected):
+        self.assertIs(is_table(program, "told", list(table.items())), expected)
+        self.assertIs(Rules(program, "told").is_table(table), expected)
 
 
 class TestAny(unittest.TestCase):

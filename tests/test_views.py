@@ -8,10 +8,11 @@ from partedlanes.errors import BadNumber, BadProgram, BadRule, TooMany
 from partedlanes.lanes import Data
 from partedlanes.machines import Machine
 from partedlanes.programs import Program
+from partedlanes.sets import Sets
 from partedlanes.views import can_stand_in_sets, is_stand, is_view, lanes_for, lanes_that_stand, results, views
 from tests.helpers import NO_INTEGERS, STRANGE, Everything, error_of, refused
 from tests.literal import chances, some_data
-from tests.literal_scenes import STEERING, Rules, fellows, forward_program
+from tests.literal_scenes import STEERING, Rules, fellows, forward_program, leavers
 from tests.test_roads import NO_PROGRAMS, NO_RULES
 from tests.test_sets import BOTH, EXAMPLE, ONE, RULES, ZERO, programs
 
@@ -142,6 +143,13 @@ class TestViews(unittest.TestCase):
         self.assertEqual(views(Program(rows)), {2: [ZERO], 4: [ZERO, BOTH, ONE]})
         self.assertIs(can_stand_in_sets(Program(rows)), False)
 
+    def test_a_meeting_that_sees_unlike_crowds_with_lanes_outside(self):
+        rows = [("take", "x"), ("same", "x", "y"), ("if", "x", 1, 4, 5), ("meet", "a"), ("go", 5), ("end",)]
+        program = Program(rows, registers=("x", "y"))
+        self.assertIn((3, 5, ((0, 0),), True), Sets(program))
+        self.assertEqual(views(program)[3], [((0, 1),)])
+        self.assertIsNone(lanes_for(program, 3, ((0, 0),)))
+
     def test_rows_that_steer(self):
         kinds = [((0, 0),), ((0, 0), (1, 0)), ((1, 0),)]
         told = views(STEERED)
@@ -248,6 +256,14 @@ class TestLanes(unittest.TestCase):
                 self.assertIs(is_view(program, row, crowd, datas), True)
                 self.assertIs(is_view(program, row, crowd, datas[1:]), False)
 
+    def test_lanes_that_have_to_leave(self):
+        for way, value in ((9, 0), (9, 1), (10, 0), (10, 1), (11, 0), (11, 1)):
+            program = leavers(way, value)
+            self.assertEqual(views(program)[8], [((0, 0),), ((0, 0), (1, 0)), ((1, 0),)])
+            for crowd in views(program)[8]:
+                datas = lanes_for(program, 8, crowd)
+                self.assertEqual([len(datas), is_view(program, 8, crowd, datas)], [1 + len(crowd), True])
+
     def test_just_sixty_values(self):
         datas = lanes_for(slow(10), 19, APART, limit=20000)
         self.assertEqual([len(data) for data in datas], [60, 60])
@@ -271,6 +287,14 @@ class TestLanes(unittest.TestCase):
             self.assertEqual(lanes_that_stand(STUCK), datas)
         with mock.patch.object(showings, "MOST_STEPS", 2):
             self.assertEqual(error_of(self, TooMany, lambda: lanes_that_stand(STUCK)), 40)
+        # Those that come to the meeting wait for three rows of the others.
+        rows = [("take", "x"), ("if", "x", 1, 5, 6), ("set", "x", 0), ("set", "x", 0), ("go", 6), ("meet", "a"), ("end",)]
+        datas = lanes_that_stand(Program(rows))
+        self.assertEqual(Machine(Program(rows), datas).go(9)[5:], [("stands",)])
+        with mock.patch.object(showings, "MOST_STEPS", 6):
+            self.assertEqual(lanes_that_stand(Program(rows)), datas)
+        with mock.patch.object(showings, "MOST_STEPS", 5):
+            self.assertEqual(error_of(self, TooMany, lambda: lanes_that_stand(Program(rows))), 40)
 
     def test_more_lanes_than_may_be(self):
         with mock.patch.object(showings, "MOST_LANES", 1):
