@@ -148,6 +148,22 @@ class Rules:
                 del left[scene]
         return len(left) > 0
 
+    def shortest(self, table):
+        """How few steps there are from the beginning to each scene, and from there to each of its arrivals."""
+        far = 10 ** 9
+        numbers = {scene: dict.fromkeys(table[scene], far) for scene in table}
+        steps = {scene: 0 if scene == self.first() else far for scene in table}
+        before = None
+        while before != (steps, numbers):
+            before = (dict(steps), {scene: dict(numbers[scene]) for scene in table})
+            for scene in table:
+                for kind, what, ahead in list(self.asks(scene, numbers)):
+                    if kind == "leads":
+                        steps[what] = min(steps[what], steps[scene] + ahead)
+                    else:
+                        numbers[scene][what] = min(numbers[scene][what], ahead)
+        return steps, numbers
+
     def longest(self, table):
         """The lengths of all scenes, and the table with their numbers, where there is no ring."""
         lengths, numbers = dict.fromkeys(table, 0), {scene: dict(table[scene]) for scene in table}
