@@ -71,8 +71,8 @@ class Crowds:
 
     def _shares(self, index, kind, many):
         """The crowds of lanes that have taken any values, and have all else as in this class."""
-        place = self._place(index)
-        units = [self.units[(*kind[:place], value, *kind[place + 1:])] for value in range(self.program.size)]
+        word = self.program.rows[index][1]
+        units = [self.units[changed[kind]] for changed in self.program.changed[word]]
         return shares_of(units, many) if self.counted else choices_of(units)
 
     def weight(self, index, code):

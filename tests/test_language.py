@@ -137,6 +137,13 @@ class TestLanguage(unittest.TestCase):
         self.check("L6, L7", [(p, n.lineno, n) for p, n in NODES if isinstance(n, BARRED_NODES) and hasattr(n, "lineno")])
         self.check("L7", [(p, n.lineno, n) for p, n in NODES if isinstance(n, ast.BinOp) and isinstance(n.op, ast.Div)])
 
+    def test_no_star_between_the_brackets_of_an_index(self):
+        self.check("L7", stars_in_indexes(TREES))
+        for code in ("xs[(*a, 1)]", "xs[*a]", "xs[f(*a)]", "xs[a[(*b, 1)]] = 2", "{k: xs[(k, *a)] for k in xs}"):
+            self.assertEqual(len(stars_in_indexes({PACKAGE: ast.parse(code)})) > 0, True, code)
+        for code in ("xs[a, 1]", "(*a, xs[1])", "f(*xs[1:])", "xs[a * 2]", "k = (*a, 1)\nxs[k]"):
+            self.assertEqual(stars_in_indexes({PACKAGE: ast.parse(code)}), [], code)
+
     def test_decorators_and_bases(self):
         found = []
         for path, node in functions():
@@ -304,6 +311,12 @@ class TestLanguage(unittest.TestCase):
         for path, node in classes():
             methods = {part.name for part in node.body if isinstance(part, ast.FunctionDef)}
             self.assertTrue("__getitem__" not in methods or "__iter__" in methods, path)
+
+
+def stars_in_indexes(trees):
+    """All stars that stand between the brackets of an index."""
+    return [(path, part.lineno, ast.unparse(node)) for path, tree in trees.items() for node in ast.walk(tree)
+            if isinstance(node, ast.Subscript) for part in ast.walk(node.slice) if isinstance(part, ast.Starred)]
 
 
 def top_names(node):
