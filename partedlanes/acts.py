@@ -1,6 +1,6 @@
 """What the rows of a program do with the lanes that do them together."""
 
-from partedlanes.programs import STEERING
+from partedlanes.checks import STEERING
 
 
 def first_class(program):

@@ -2,6 +2,8 @@
 
 LETTERS = "abcdefghijklmnopqrstuvwxyz"
 MOST_LETTERS = 8
+MOST_ROWS = 24
+STEERING = ("any", "all", "same")
 
 # What stands in a row behind its first word, part by part.
 FORMS = {

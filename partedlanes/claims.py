@@ -1,7 +1,6 @@
 """What tables tell of scenes, whoever wrote them, and what they have to tell."""
 
-from partedlanes.crowds import is_crowd
-from partedlanes.plots import is_scene
+from partedlanes.readings import read_table
 from partedlanes.unions import Unions, arrivals_of_kind, grouped
 
 
@@ -86,49 +85,22 @@ class Claims:
                         sums[both] = (number + more, *arms)
 
 
-def read_arrivals(plot, value):
-    """The number of each crowd of a list of crowds and (), or None if any value is no such list."""
-    counted = plot.crowds.counted
-    if not isinstance(value, list):
-        return None
-    if not all([is_arrival(plot.program, arrival, counted) for arrival in value]):
-        return None
-    return {plot.crowds.code_of(arrival): 0 for arrival in value}
+def claims_of(plot, numbers):
+    """The claims of a table that has no numbers; numbers: a dict of scenes, each with a dict of its arrivals."""
+    return Claims(plot, {scene: 0 for scene in numbers}, numbers)
 
 
-def is_arrival(program, value, counted):
-    """Whether any value is a crowd or ()."""
-    return (isinstance(value, tuple) and len(value) == 0) or is_crowd(program, value, counted)
-
-
-def read_scenes(plot, value, parts):
-    """A dict of scenes and what stands behind them in any value, or None.
-
-    It is None if the value is no list of tuples of so many parts, the first one a scene, none twice.
-    """
-    if not isinstance(value, list):
-        return None
-    found = {}
-    for entry in value:
-        if not isinstance(entry, tuple) or len(entry) != parts:
-            return None
-        if not is_scene(plot.program, entry[0], plot.crowds.counted):
-            return None
-        found[plot.coded(entry[0])] = entry[1:]
-    return found if len(found) == len(value) else None
+def tells_enough(claims, scene):
+    """Whether all arrivals that have to be told of a scene are told, and all scenes that it asks for."""
+    asked = claims.asked(scene)
+    numbers = claims.told(scene)[1]
+    return asked is not None and all([arrival in numbers for arrival in asked[1]])
 
 
 def is_told_table(plot, start, value):
     """Whether any value is a table of scenes, with this first one."""
-    scenes = read_scenes(plot, value, 2)
-    if scenes is None or start not in scenes:
+    numbers = read_table(plot, value)
+    if numbers is None or start not in numbers:
         return False
-    numbers = {scene: read_arrivals(plot, scenes[scene][0]) for scene in scenes}
-    if any([numbers[scene] is None for scene in numbers]):
-        return False
-    claims = Claims(plot, {scene: 0 for scene in scenes}, numbers)
-    for scene in scenes:
-        asked = claims.asked(scene)
-        if asked is None or any([arrival not in numbers[scene] for arrival in asked[1]]):
-            return False
-    return True
+    claims = claims_of(plot, numbers)
+    return all([tells_enough(claims, scene) for scene in numbers])

@@ -1,14 +1,14 @@
 """The exceptions of the package; each one tells in `value` what was refused, found or exceeded."""
 
 # The value itself is not written out: it may be any value, also one that cannot be shown.
-MESSAGE = "the attribute value tells what this is about"
+_MESSAGE = "the attribute value tells what this is about"
 
 
 class LanesError(ValueError):
     """Above all errors about a value that is not as it should be."""
 
     def __init__(self, value):
-        ValueError.__init__(self, MESSAGE)
+        ValueError.__init__(self, _MESSAGE)
         self.value = value
 
 
@@ -104,7 +104,7 @@ class Absent(KeyError):
     """Above all errors about what is asked for and is not there."""
 
     def __init__(self, value):
-        KeyError.__init__(self, MESSAGE)
+        KeyError.__init__(self, _MESSAGE)
         self.value = value
 
 
@@ -120,7 +120,7 @@ class TooLarge(OverflowError):
     """An answer is too long to be told; value: the limit."""
 
     def __init__(self, value):
-        OverflowError.__init__(self, MESSAGE)
+        OverflowError.__init__(self, _MESSAGE)
         self.value = value
 
 
@@ -128,7 +128,7 @@ class TooMany(OverflowError):
     """There are more than the limit; value: the limit."""
 
     def __init__(self, value):
-        OverflowError.__init__(self, MESSAGE)
+        OverflowError.__init__(self, _MESSAGE)
         self.value = value
 
 

@@ -10,10 +10,10 @@ from partedlanes.marches import March
 from partedlanes.plots import Plot, is_scene
 from partedlanes.sets import Sets
 from partedlanes.showings import come_to, datas_of
+from partedlanes.sights import ask_seeing_row, seeing_scenes, stuck_scenes
 from partedlanes.tellings import round_scenes, table_of, told_scenes
-from partedlanes.views import ask_seeing_row, seeing_scenes, stuck_scenes
 
-MOST_COUNTED = 8
+_MOST_COUNTED = 8
 
 
 class Counted:
@@ -73,7 +73,7 @@ def fewest_lanes(program, row, crowd, *, rule="told", limit=4000):
     ask_seeing_row(program, row)
     if not is_crowd(program, crowd, False) or len(seeing_scenes(sets.found, row, crowd)) == 0:
         return None
-    for lanes in range(1, MOST_COUNTED + 1):
+    for lanes in range(1, _MOST_COUNTED + 1):
         found = Counted(program, lanes, rule=rule, limit=limit).found
         goals = seeing_scenes(found, row, crowd)
         if len(goals) > 0:
@@ -85,7 +85,7 @@ def fewest_that_stand(program, *, rule="told", limit=4000):
     """The fewest lanes with which a machine stands, and their data, or None."""
     if len(stuck_scenes(Sets(program, rule=rule, limit=limit).found)) == 0:
         return None
-    for lanes in range(1, MOST_COUNTED + 1):
+    for lanes in range(1, _MOST_COUNTED + 1):
         found = Counted(program, lanes, rule=rule, limit=limit).found
         goals = stuck_scenes(found)
         if len(goals) > 0:
@@ -100,5 +100,5 @@ def _datas_to(found, goals, lanes):
 
 
 def _ask_lanes(lanes):
-    if not is_between(lanes, 1, MOST_COUNTED):
+    if not is_between(lanes, 1, _MOST_COUNTED):
         raise BadNumber(lanes)

@@ -29,7 +29,8 @@ class Moves:
         self.rule = rule
         self.end = program.end
         self.joins = joins_of(program, rule) if rule in PILE_RULES else {}
-        places = [(row, registers) for row in range(self.end) for registers in program.classes()]
+        self.kinds = program.classes()
+        places = [(row, registers) for row in range(self.end) for registers in self.kinds]
         self.ahead = {place: self._ahead(place) for place in places}
 
     def _ahead(self, place):
@@ -76,14 +77,8 @@ class Moves:
 
     def _state(self, one, other, top, join):
         """The pair state of lanes at two places; by a pile apart, if both are alive, lane top above, with this join."""
-        if one[0] == self.end and other[0] == self.end:
-            return (*one, *other, "over", self.end)
-        if other[0] == self.end:
-            return (*one, *other, "first", self.end)
-        if one[0] == self.end:
-            return (*one, *other, "second", self.end)
-        if self.rule not in PILE_RULES:
-            return (*one, *other, self._word_by_rows(one[0], other[0]), self.end)
+        if one[0] == self.end or other[0] == self.end or self.rule not in PILE_RULES:
+            return (*one, *other, self.next_word(one[0], other[0]), self.end)
         return (*one, *other, *self._next_by_pile((one[0], other[0]), top, join))
 
     def _next_by_pile(self, rows, top, join):
@@ -92,19 +87,31 @@ class Moves:
             top = 1 - top
         if rows[top] == join:
             return ("both", self.end)
-        return (f"{WORDS[top]} stands" if self._is_meeting(rows[top]) else WORDS[top], join)
+        return (f"{WORDS[top]} stands" if self.is_meeting(rows[top]) else WORDS[top], join)
 
-    def _word_by_rows(self, one, other):
+    def next_word(self, one, other):
+        """How lanes at two rows, or the end, go on where no pile tells it."""
+        if one == self.end:
+            return "over" if other == self.end else "second"
+        if other == self.end:
+            return "first"
         if one == other:
             return "both"
-        if self._is_meeting(one):
-            return "stands" if self._is_meeting(other) else "second"
-        if self._is_meeting(other):
+        if self.is_meeting(one):
+            return "stands" if self.is_meeting(other) else "second"
+        if self.is_meeting(other):
             return "first"
         return "first" if (one < other) == (self.rule == "least") else "second"
 
-    def _is_meeting(self, row):
+    def is_meeting(self, row):
+        """Whether a row is a meeting."""
         return self.program.rows[row][0] == "meet"
+
+
+def first_state(program):
+    """The pair state at the beginning."""
+    zeros = first_class(program)
+    return (0, zeros, 0, zeros, "both", program.end)
 
 
 class Graph:
@@ -112,11 +119,10 @@ class Graph:
 
     def __init__(self, program, rule):
         ask_plain(program, rule)
-        zeros = first_class(program)
         self.program = program
         self.rule = rule
         self.moves = Moves(program, rule)
-        self.start = (0, zeros, 0, zeros, "both", program.end)
+        self.start = first_state(program)
         self.behind = {}
         self.depths = {self.start: 0}
         self.layers = []

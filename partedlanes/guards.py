@@ -1,6 +1,6 @@
 """Refusals that several modules share."""
 
-from partedlanes.checks import is_between
+from partedlanes.checks import is_between, is_whole
 from partedlanes.errors import BadNumber, BadProgram, BadRule
 from partedlanes.programs import Program
 
@@ -25,6 +25,12 @@ def ask_rule(rule, rules):
 def ask_row(program, row):
     """Refuses any value that is no number of a row."""
     if not is_between(row, 0, program.end - 1):
+        raise BadNumber(row)
+
+
+def ask_group(program, row):
+    """Refuses any value that is no number of a group operation."""
+    if not is_whole(row) or row not in program.groups():
         raise BadNumber(row)
 
 

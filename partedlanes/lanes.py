@@ -2,10 +2,9 @@
 
 from partedlanes.acts import classes_behind, first_class, next_row
 from partedlanes.checks import is_between, is_whole
+from partedlanes.digits import MOST_VALUES, are_below, are_values, without_zeros
 from partedlanes.errors import BadData, BadNumber
 from partedlanes.guards import ask_most, ask_program
-
-MOST_VALUES = 60
 
 
 class Data:
@@ -65,24 +64,6 @@ class Data:
         return self * other
 
 
-def are_values(values):
-    """Whether the things in a list or tuple are values, and not too many."""
-    return len(values) <= MOST_VALUES and all([is_between(value, 0, 2) for value in values])
-
-
-def without_zeros(values):
-    """The tuple of values without zeros at its end."""
-    many = len(values)
-    while many > 0 and values[many - 1] == 0:
-        many -= 1
-    return tuple(values[:many])
-
-
-def fits(program, data):
-    """Whether any value is data whose values are those of the program."""
-    return isinstance(data, Data) and max(data.digits, default=0) < program.size
-
-
 def _values_of(other):
     # Only data lose the zeros at their end by themselves: those of a list count.
     if isinstance(other, Data):
@@ -97,7 +78,7 @@ class Alone:
 
     def __init__(self, program, data):
         ask_program(program)
-        if not fits(program, data):
+        if not isinstance(data, Data) or not are_below(data.digits, program.size):
             raise BadData(data)
         self.program = program
         self.data = data

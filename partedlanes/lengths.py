@@ -1,12 +1,14 @@
 """Greatest numbers of steps of machines, or rings by which there are none."""
 
 from partedlanes.checks import is_whole
-from partedlanes.claims import Claims, is_arrival, read_scenes
+from partedlanes.claims import Claims
 from partedlanes.errors import NoScene
 from partedlanes.guards import PILE_RULES, ask_most, ask_program, ask_rule
+from partedlanes.loads import are_datas
 from partedlanes.longest import Longest
-from partedlanes.machines import Machine, are_datas
+from partedlanes.machines import Machine
 from partedlanes.plots import Plot, is_scene
+from partedlanes.readings import is_arrival, read_scenes
 from partedlanes.sets import Sets
 from partedlanes.showings import datas_of
 from partedlanes.treks import carry, trek_along, ways

@@ -3,12 +3,10 @@
 from partedlanes.errors import BadData, BadKind, BadMachine, NoLane
 from partedlanes.fronts import Front
 from partedlanes.guards import PILE_RULES, RULES, ask_most, ask_program, ask_rule
-from partedlanes.lanes import fits
+from partedlanes.loads import are_datas
 from partedlanes.piles import Pile
 from partedlanes.roads import joins_of
 from partedlanes.trials import Trial
-
-MOST_LANES = 40
 
 
 class Machine:
@@ -100,13 +98,6 @@ class Machine:
     def trial(self):
         """For one `with`: a copy to work on; behind the block the machine is as that is, if it is kept."""
         return Trial(self)
-
-
-def are_datas(program, datas):
-    """Whether any value is a list or tuple of as many data of a program as a machine may have lanes."""
-    if not isinstance(datas, (list, tuple)) or not 1 <= len(datas) <= MOST_LANES:
-        return False
-    return all([fits(program, data) for data in datas])
 
 
 def tried(machine, most, *, keep=True):

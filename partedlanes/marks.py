@@ -4,11 +4,11 @@ from partedlanes.checks import is_whole
 from partedlanes.errors import BadJoins, NotPlain, TooMany
 from partedlanes.graphs import Graph, can_stand
 from partedlanes.guards import PILE_RULES, RULES, ask_limit, ask_program
-from partedlanes.promises import are_kept
 from partedlanes.roads import unnested
+from partedlanes.ties import are_kept
 from partedlanes.views import views
 
-MOST_BRANCHES = 6
+_MOST_BRANCHES = 6
 
 
 def marked(program, choice):
@@ -42,8 +42,8 @@ def least_marks(program):
     """All least choices of marks: those with fewer branches ahead, then ascending."""
     _ask_plain(program)
     branches = program.branches()
-    if len(branches) > MOST_BRANCHES:
-        raise TooMany(MOST_BRANCHES)
+    if len(branches) > _MOST_BRANCHES:
+        raise TooMany(_MOST_BRANCHES)
     found = []
     for choice in sorted(_choices(branches), key=lambda one: (len(one), one)):
         if not any([_is_within(least, choice) for least in found]):

@@ -1,9 +1,9 @@
 """Pairs: which rows two lanes of a plain program do together or apart."""
 
-from partedlanes.checks import is_whole
 from partedlanes.errors import BadState
 from partedlanes.graphs import Graph
 from partedlanes.guards import ask_row
+from partedlanes.states import is_shaped
 from partedlanes.trails import shown_datas
 
 
@@ -25,7 +25,7 @@ class Pairs:
         return len(self.graph.behind)
 
     def __contains__(self, state):
-        return _is_shaped(state) and state in self.graph.behind
+        return is_shaped(state) and state in self.graph.behind
 
     def _ask_state(self, state):
         if state not in self:
@@ -74,15 +74,3 @@ class Pairs:
 
 def _other_row(state):
     return state[0] if state[4] == "second" else state[2]
-
-
-def _is_shaped(value):
-    """Whether any value is built as pair states are; only such a one is looked up."""
-    if not isinstance(value, tuple) or len(value) != 6:
-        return False
-    if not isinstance(value[4], str) or not all([is_whole(value[place]) for place in (0, 2, 5)]):
-        return False
-    return all([
-        isinstance(registers, tuple) and all([is_whole(part) for part in registers])
-        for registers in (value[1], value[3])
-    ])

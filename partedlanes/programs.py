@@ -1,10 +1,7 @@
 """Programs: rows that lanes do, checked once and never changed."""
 
-from partedlanes.checks import are_registers, is_between, is_row, is_whole
+from partedlanes.checks import MOST_ROWS, STEERING, are_registers, is_between, is_row, is_whole
 from partedlanes.errors import BadJoins, BadNumber, BadRegisters, BadRow, BadRows
-
-MOST_ROWS = 24
-STEERING = ("any", "all", "same")
 
 
 class Program:

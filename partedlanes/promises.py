@@ -1,10 +1,9 @@
 """Promises: whether group operations see just the lanes that they should."""
 
-from partedlanes.checks import is_whole
-from partedlanes.errors import BadNumber, BadPromise, NotNested, TooMany
+from partedlanes.errors import BadPromise, NotNested, TooMany
 from partedlanes.graphs import Graph
-from partedlanes.guards import RULES
-from partedlanes.ties import Ties
+from partedlanes.guards import RULES, ask_group
+from partedlanes.ties import Ties, are_kept
 
 
 class Promise:
@@ -12,11 +11,10 @@ class Promise:
 
     def __init__(self, program, rule, row):
         graph = Graph(program, rule)
-        if not is_whole(row) or row not in program.groups():
-            raise BadNumber(row)
+        ask_group(program, row)
         self.ties = Ties(graph, row)
         self.row = row
-        self.anchor = self.ties.anchor
+        self.anchor = self.ties.bond.anchor
         self.kept = self.ties.kept
 
     def __eq__(self, other):
@@ -33,12 +31,11 @@ class Promise:
 
     def bounds(self):
         """Tuples (state, least, greatest) of the differences of counts where lanes can be related, ascending."""
-        least, greatest = self.ties.least, self.ties.greatest
-        return [(state, least[state], greatest[state]) for state in sorted(list(least))]
+        return self.ties.told_bounds()
 
     def unrelated(self):
         """The pair states in which lanes can be and be not related, ascending."""
-        return sorted(list(self.ties.strangers))
+        return self.ties.told_strangers()
 
     def at_least(self, other):
         """Whether it is kept, or another promise is not."""
@@ -54,14 +51,6 @@ class Promise:
 def keeps(program, rule):
     """Whether all promises of a program are kept."""
     return are_kept(Graph(program, rule))
-
-
-def are_kept(graph):
-    """Whether two lanes break no promise at the pair states of a graph."""
-    for row in graph.program.groups():
-        if not Ties(graph, row).kept:
-            return False
-    return True
 
 
 def broken_rows(program, rule):

@@ -1,10 +1,11 @@
 """Showings: data of lanes with which machines come to scenes."""
 
+from partedlanes.digits import MOST_VALUES, without_zeros
 from partedlanes.errors import TooMany
 from partedlanes.guards import MOST_STEPS
-from partedlanes.lanes import MOST_VALUES, Data, without_zeros
+from partedlanes.lanes import Data
 from partedlanes.least import STEP
-from partedlanes.machines import MOST_LANES
+from partedlanes.loads import MOST_LANES
 from partedlanes.treks import carry, cheapest_leads, trek_along
 
 

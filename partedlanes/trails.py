@@ -1,7 +1,8 @@
 """Trails with the fewest steps that two lanes can go, and the data with which they go them."""
 
+from partedlanes.digits import MOST_VALUES, without_zeros
 from partedlanes.errors import TooLarge
-from partedlanes.lanes import MOST_VALUES, Data, without_zeros
+from partedlanes.lanes import Data
 
 
 def shown_datas(layers, walk):

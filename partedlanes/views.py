@@ -1,13 +1,13 @@
 """What groups can see: the crowds that rows see, with lanes that show it."""
 
 from partedlanes.acts import told_by
-from partedlanes.checks import is_whole
 from partedlanes.crowds import is_crowd
-from partedlanes.errors import BadNumber
 from partedlanes.guards import MOST_STEPS, PILE_RULES, ask_program, ask_rule
-from partedlanes.machines import Machine, are_datas
+from partedlanes.loads import are_datas
+from partedlanes.machines import Machine
 from partedlanes.sets import Sets
 from partedlanes.showings import come_to, datas_of
+from partedlanes.sights import ask_seeing_row, done_scenes, seeing_rows, seeing_scenes, stuck_scenes
 from partedlanes.weaves import Weave
 
 
@@ -80,36 +80,7 @@ def is_stand(program, datas, *, rule="told"):
     return are_datas(program, datas) and Machine(program, datas, rule=rule).go(MOST_STEPS)[-1][0] == "stands"
 
 
-def seeing_rows(program):
-    """The rows of group operations and meetings and those that steer, ascending."""
-    return sorted([*program.groups(), *program.meets(), *program.steering()])
-
-
-def ask_seeing_row(program, row):
-    """Refuses any value that is no number of such a row."""
-    if not is_whole(row) or row not in seeing_rows(program):
-        raise BadNumber(row)
-
-
 def _seen_by(sets, row):
     """The crowds that a row can see, ascending."""
     crowds = sets.found.plot.crowds
-    return sorted(set([crowds.crowd_of(scene[2]) for scene in _done_scenes(sets.found, row)]))
-
-
-def _done_scenes(found, row):
-    return [scene for scene in found.sure if scene[0] == row and not found.plot.is_stuck(scene)]
-
-
-def seeing_scenes(found, row, crowd):
-    """The scenes at which lanes of a crowd, uncounted, do a row."""
-    return [scene for scene in _done_scenes(found, row) if _uncounted(found, scene) == list(crowd)]
-
-
-def _uncounted(found, scene):
-    return sorted(set(found.plot.crowds.crowd_of(scene[2])))
-
-
-def stuck_scenes(found):
-    """The scenes at which a machine stands."""
-    return [scene for scene in found.sure if found.plot.is_stuck(scene)]
+    return sorted(set([crowds.crowd_of(scene[2]) for scene in done_scenes(sets.found, row)]))

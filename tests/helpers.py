@@ -1,4 +1,6 @@
-"""What several tests use: values of other kinds, and values that are equal to everything."""
+"""What several tests use: values of other kinds, values that are equal to everything, and times."""
+
+import time
 
 
 class Everything:
@@ -43,3 +45,24 @@ def error_of(test, kind, action):
 def refused(test, kind, value, action):
     """The action raises this kind of exception, which carries this very value."""
     test.assertIs(error_of(test, kind, action), value)
+
+
+def spent(action):
+    """How long an action takes."""
+    start = time.perf_counter()
+    action()
+    return time.perf_counter() - start
+
+
+def plain_work():
+    """Plain work of lists, tuples and dicts, the time of which tells how fast all goes here."""
+    found = {}
+    for number in range(20000):
+        parts = tuple([part for part in (number, number + 1, number % 7) if part != 3])
+        found[parts[-1]] = [*found.get(parts[-1], [])[-4:], parts]
+
+
+def times_of(action):
+    """The least times that an action and plain work take, of five times each, one beside the other."""
+    times = [(spent(action), spent(plain_work)) for _ in range(5)]
+    return min(one for one, _ in times), min(other for _, other in times)

@@ -12,6 +12,13 @@ INTERFACE = {
     "machines": {"Machine": "(program, datas, *, rule='told')", "tried": "(machine, most, *, keep=True)"},
     "pairs": {"Pairs": "(program, rule)"},
     "promises": {"Promise": "(program, rule, row)", "keeps": "(program, rule)", "broken_rows": "(program, rule)"},
+    "papers": {
+        "accepts": "(program, rule, paper)",
+        "closed_paper": "(program, rule)",
+        "stands_paper": "(program, rule)",
+        "promise_paper": "(program, rule, row)",
+        "verdict": "(paper)",
+    },
     "sets": {"Sets": "(program, *, rule='told', limit=4000)"},
     "tables": {"is_table": "(program, rule, value)"},
     "views": {
@@ -45,6 +52,14 @@ INTERFACE = {
         "fewest_lanes": "(program, row, crowd, *, rule='told', limit=4000)",
         "fewest_that_stand": "(program, *, rule='told', limit=4000)",
     },
+    "pieces": {
+        "is_piece": "(program, rule, value)",
+        "pieces_of": "(sets)",
+        "unkept": "(program, rule, pieces)",
+        "joined_pieces": "(program, rule, pieces)",
+        "touched_pieces": "(program, other, rule, pieces)",
+    },
+    "sources": {"Source": "(block, *, registers=('x',), values=2)"},
 }
 
 # The methods of classes, and what they take besides the object itself.
@@ -59,6 +74,7 @@ METHODS = {
         "is_endless": "()", "ring": "()", "__getitem__": None, "numbers": "(scene)", "table": "()",
         "__contains__": None, "__len__": "()",
     },
+    ("sources", "Source"): {"lowered": "()", "seen": "(datas, most)", "__eq__": None},
     ("machines", "Machine"): {
         "step": "()", "go": "(most)", "events": "()", "row_of": "(lane)", "registers_of": "(lane)", "alive": "()",
         "__len__": "()", "state": "()", "copy": "()", "__eq__": None, "trial": "()", "pile": "()",
