@@ -107,12 +107,13 @@ def is_crowd(program, value, counted):
     """Whether any value is a crowd of a program, or, where lanes are counted, a counted one."""
     if not isinstance(value, tuple) or len(value) == 0:
         return False
-    if not all([_is_class(program, kind) for kind in value]):
+    if not all([is_class(program, kind) for kind in value]):
         return False
     return all([one < other or (counted and one == other) for one, other in zip(value[:-1], value[1:])])
 
 
-def _is_class(program, value):
+def is_class(program, value):
+    """Whether any value is a class of a program."""
     if not isinstance(value, tuple) or len(value) != len(program.registers):
         return False
     return all([is_between(part, 0, program.size - 1) for part in value])

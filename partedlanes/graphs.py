@@ -1,8 +1,8 @@
 """All pair states that two lanes of a plain program come to, and the steps between them."""
 
 from partedlanes.acts import classes_behind, first_class, next_row
-from partedlanes.errors import NotNested, NotPlain, TooMany
-from partedlanes.guards import PILE_RULES, RULES, ask_program, ask_rule
+from partedlanes.errors import NotNested, TooMany
+from partedlanes.guards import PILE_RULES, RULES, ask_no_steering, ask_program, ask_rule
 from partedlanes.roads import joins_of, unnested
 
 MOST_STATES = 60000
@@ -13,8 +13,7 @@ def ask_plain(program, rule):
     """Refuses what stages 5 to 8 are not about."""
     ask_program(program)
     ask_rule(rule, RULES)
-    if not program.is_plain():
-        raise NotPlain(program.steering()[0])
+    ask_no_steering(program)
     if rule in PILE_RULES:
         pairs = unnested(program, rule)
         if len(pairs) > 0:

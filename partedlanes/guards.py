@@ -1,7 +1,7 @@
 """Refusals that several modules share."""
 
 from partedlanes.checks import is_between, is_whole
-from partedlanes.errors import BadNumber, BadProgram, BadRule
+from partedlanes.errors import BadNumber, BadProgram, BadRule, NotPlain
 from partedlanes.programs import Program
 
 MOST_STEPS = 1000
@@ -14,6 +14,13 @@ def ask_program(program):
     """Refuses any value that is no program."""
     if not isinstance(program, Program):
         raise BadProgram(program)
+
+
+def ask_no_steering(program):
+    """Refuses any value that is no program, and programs with rows that steer."""
+    ask_program(program)
+    if not program.is_plain():
+        raise NotPlain(program.steering()[0])
 
 
 def ask_rule(rule, rules):

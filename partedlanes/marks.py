@@ -1,9 +1,9 @@
 """Marks: which branches need their joins."""
 
 from partedlanes.checks import is_whole
-from partedlanes.errors import BadJoins, NotPlain, TooMany
+from partedlanes.errors import BadJoins, TooMany
 from partedlanes.graphs import Graph, can_stand
-from partedlanes.guards import PILE_RULES, RULES, ask_limit, ask_program
+from partedlanes.guards import PILE_RULES, RULES, ask_limit, ask_no_steering, ask_program
 from partedlanes.roads import unnested
 from partedlanes.ties import are_kept
 from partedlanes.views import views
@@ -27,7 +27,7 @@ def _is_choice(program, value):
 
 def is_good(program):
     """Whether joins nest, all promises are kept and no machine stands, by the rule "told"."""
-    _ask_plain(program)
+    ask_no_steering(program)
     return _is_good(program)
 
 
@@ -40,7 +40,7 @@ def _is_good(program):
 
 def least_marks(program):
     """All least choices of marks: those with fewer branches ahead, then ascending."""
-    _ask_plain(program)
+    ask_no_steering(program)
     branches = program.branches()
     if len(branches) > _MOST_BRANCHES:
         raise TooMany(_MOST_BRANCHES)
@@ -54,7 +54,7 @@ def least_marks(program):
 
 def verdicts(program):
     """A dict of the four rules: None if joins do not nest, else whether promises are kept, and whether none stands."""
-    _ask_plain(program)
+    ask_no_steering(program)
     return {rule: _verdict(program, rule) for rule in RULES}
 
 
@@ -65,12 +65,6 @@ def views_unlike(program, *, limit=4000):
     told = views(program, rule="told", limit=limit)
     first = views(program, rule="first", limit=limit)
     return [row for row in told if told[row] != first[row]]
-
-
-def _ask_plain(program):
-    ask_program(program)
-    if not program.is_plain():
-        raise NotPlain(program.steering()[0])
 
 
 def _verdict(program, rule):

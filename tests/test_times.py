@@ -2,13 +2,20 @@
 
 import unittest
 
+from partedlanes.alike import Likeness, events_alone, is_like_table, surely_alike
+from partedlanes.desks import Desk
+from partedlanes.keepers import Keeper, edits_kept, tried_edits
+from partedlanes.lanes import Data
 from partedlanes.papers import accepts, closed_paper, promise_paper, stands_paper, verdict
 from partedlanes.pieces import is_piece, joined_pieces, pieces_of, touched_pieces, unkept
 from partedlanes.programs import Program
 from partedlanes.sets import Sets
 from partedlanes.sources import Source
+from partedlanes.texts import format_data, format_program, parse_data, parse_program
 from tests.helpers import times_of
 from tests.literal import some_data
+from tests.test_alike import some_pairs
+from tests.test_keepers import good_programs, some_edit
 from tests.test_pairs import plain_programs
 from tests.test_sets import programs
 from tests.test_sources import some_sources
@@ -63,6 +70,47 @@ class TestTimes(unittest.TestCase):
                 made.seen(datas, 100)
 
         self.check(action, 4)
+
+    def test_texts_and_desks(self):
+        cases = [program for _, program, _ in programs(60, 8)]
+
+        def action():
+            for program in cases:
+                made = parse_program(format_program(program))
+                parse_data(format_data(Data(1, 0, 1)))
+                desk = Desk(made)
+                for line in ("lane 1", "lane 01", "rule first", "step", "go", "lanes", "stands", "broken"):
+                    desk.answer(line)
+
+        self.check(action, 20)
+
+    def test_programs_alike(self):
+        cases = [(one, other) for _, one, other in some_pairs(150)]
+
+        def action():
+            for one, other in cases:
+                likeness = Likeness(again(one), again(other))
+                likeness.difference()
+                likeness(Data(1, 0, 1))
+                is_like_table(again(one), again(other), likeness.table())
+                surely_alike(again(one), "least", again(other), "greatest")
+                events_alone(again(one), Data(1, 0, 1), 40)
+
+        self.check(action, 22)
+
+    def test_keepers(self):
+        cases = [(program, rule, [some_edit(chance, program) for _ in range(3)])
+                 for chance, program, rule in good_programs(60)]
+
+        def action():
+            for program, rule, edits in cases:
+                keeper = Keeper(again(program), rule)
+                keeper.papers()
+                keeper.copy().put_joins({})
+                edits_kept(again(program), rule, edits)
+                tried_edits(keeper, [("joins", {})] * 2, keep=False)
+
+        self.check(action, 250)
 
 
 if __name__ == "__main__":
