@@ -4,6 +4,8 @@ LETTERS = "abcdefghijklmnopqrstuvwxyz"
 MOST_LETTERS = 8
 MOST_ROWS = 24
 STEERING = ("any", "all", "same")
+# The rows that change what registers have.
+CHANGING = ("set", "copy", "take", "any", "all", "same")
 
 # What stands in a row behind its first word, part by part.
 FORMS = {
@@ -55,16 +57,21 @@ def is_row(row, registers, size, end):
     form = FORMS[kind]
     if len(row) != len(form) + 1:
         return False
-    return all([_is_part(part, name, registers, size, end) for part, name in zip(row[1:], form)])
+    for part, name in zip(row[1:], form):
+        if not _is_part(part, name, registers, size, end):
+            return False
+    return True
 
 
 def _is_part(part, name, registers, size, end):
     if name == "place":
         return isinstance(part, str) and part in registers
+    if name == "word":
+        return is_word(part)
+    if name == "anchor" and part is None:
+        return True
+    if not isinstance(part, int) or isinstance(part, bool) or part < 0:
+        return False
     if name == "value":
-        return is_between(part, 0, size - 1)
-    if name == "to":
-        return is_between(part, 0, end)
-    if name == "anchor":
-        return part is None or is_between(part, 0, end - 1)
-    return is_word(part)
+        return part < size
+    return part <= end if name == "to" else part < end

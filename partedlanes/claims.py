@@ -32,9 +32,9 @@ class Claims:
         if self.plot.parts(scene):
             return self._asked_where_they_part(scene)
         ahead = 0 if self.plot.is_open(scene) else 1
-        return self._asked_behind([(ahead, later) for later in self.plot.comings(scene)], 0)
+        return self.asked_behind([(ahead, later) for later in self.plot.comings(scene)], 0)
 
-    def _asked_behind(self, ways, length):
+    def asked_behind(self, ways, length):
         """The same for tuples (steps, what comes behind these), and at least this length."""
         numbers = {}
         for ahead, later in ways:
@@ -50,13 +50,13 @@ class Claims:
         return (0, {later: 0}) if isinstance(later, int) else self.told(later)
 
     def _asked_where_they_part(self, scene):
-        told = self.arms(scene)
+        told = self.told_of_arms(scene)
         if told is None:
             return None
         length, sums = told
-        return self._asked_behind([(1 + sums[both][0], self.plot.rest(scene, both)) for both in sums], length)
+        return self.asked_behind([(1 + sums[both][0], self.plot.rest(scene, both)) for both in sums], length)
 
-    def arms(self, scene):
+    def told_of_arms(self, scene):
         """What is told of the arms where lanes part, or None: (length, sums).
 
         The length is that as far as the second arm; sums is a dict of the crowds of both arms together, each with

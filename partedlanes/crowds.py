@@ -1,7 +1,7 @@
 """Crowds, told by numbers, and what rows make of them."""
 
 from partedlanes.acts import classes_behind, next_row
-from partedlanes.checks import is_between
+from partedlanes.checks import CHANGING, is_between
 
 # How many bits of a number stand for each class: whether it is there, or how many lanes have it.
 ONE_BIT = 1
@@ -23,7 +23,9 @@ class Crowds:
         self.kinds = program.classes()
         self.units = {kind: 1 << (self.width * place) for place, kind in enumerate(self.kinds)}
         self.masks = {index: self._mask(index) for index in program.branches()}
+        self.words = [row[0] for row in program.rows]
         self.known_moves = {}
+        self.known_crowds = {0: ()}
         self.known_spreads = {}
         self.known_weights = {}
 
@@ -41,10 +43,12 @@ class Crowds:
 
     def crowd_of(self, code):
         """The crowd that a number tells, as a tuple of classes."""
-        width, full = self.width, self.full
-        return tuple([
-            kind for place, kind in enumerate(self.kinds) for _ in range((code >> (width * place)) & full)
-        ])
+        if code not in self.known_crowds:
+            place = (code.bit_length() - 1) // self.width
+            many = code >> (self.width * place)
+            rest = self.crowd_of(code - (many << (self.width * place)))
+            self.known_crowds[code] = (*rest, *[self.kinds[place] for _ in range(many)])
+        return self.known_crowds[code]
 
     def parted(self, index, code):
         """The crowds that go to the next row from a branch, and to the other one."""
@@ -53,6 +57,8 @@ class Crowds:
 
     def moved(self, index, code):
         """The crowd behind a row, which behind a take is told as if all lanes took 0."""
+        if self.words[index] not in CHANGING:
+            return code
         if (index, code) not in self.known_moves:
             crowd = self.crowd_of(code)
             classes = classes_behind(self.program, index, crowd, (0,) * len(crowd))

@@ -1,174 +1,132 @@
-"""Least tables of scenes, found with the fewest steps to each arrival."""
-
-from heapq import heappop, heappush
+"""Least tables of scenes."""
 
 from partedlanes.errors import TooMany
-from partedlanes.joints import Joint
-from partedlanes.unions import arrivals_of_kind
-
-# What a step costs: so much that of ways with as few steps that with the least crowds costs least.
-STEP = 1000000
+from partedlanes.pairings import Pairings
+from partedlanes.sieves import many_of
 
 
 class Least:
-    """The least table of the scenes that come from a first one, open scenes among them.
+    """The least table of the scenes that come from those that are needed, open scenes among them.
 
-    `sure` is a dict of all scenes, each with a dict of its arrivals and their least costs, those of the arms counted.
-    Arrivals are settled by their costs, cheapest first, so that a settled one never becomes cheaper.
-
-    The *source* of an arm is what comes of it in the end, as long as only one thing can come; arms have the arrivals of
-    their sources. Scenes that part in arms of the same sources share a joint, in which these are paired once for all.
+    `sure` is a dict of all scenes, each with the set of its arrivals, as `pairings` tells it. Scenes and arrivals are
+    counted, but for open scenes, and for those of the trunk if these are counted elsewhere: then `in_trunk` is a list
+    of the scenes of the trunk that were found.
     """
 
-    def __init__(self, plot, start, limit):
+    def __init__(self, plot, limit, counts_trunk):
         self.plot = plot
-        self.start = start
         self.limit = limit
-        self.stride = STEP
+        self.counts_trunk = counts_trunk
         self.many = 0
+        self.in_trunk = []
         self.sure = {}
-        self.costs = {}
         self.holders = {}
-        self.parting = {}
-        self.joints = {}
-        self.joints_of = {}
-        self.first_joints = {}
-        self.second_joints = {}
-        self.fresh = []
-        self.queue = []
-        self._need(start)
-        self._settle()
+        self.watchers = {}
+        self.led = {}
+        self.pairings = Pairings(plot)
+        self.fresh, self.grown, self.due = [], [], {}
 
-    def _settle(self):
-        while len(self.fresh) + len(self.queue) > 0:
-            if len(self.fresh) > 0:
-                self._go_on(self.fresh.pop())
-            else:
-                cost, scene, arrival = heappop(self.queue)
-                if arrival not in self.sure[scene]:
-                    self.sure[scene][arrival] = cost
-                    self._tell_others(scene, arrival, cost)
+    def need(self, scene):
+        """A scene has to be in the table."""
+        if scene not in self.sure:
+            self.sure[scene] = 0
+            self.holders[scene] = []
+            self.fresh.append(scene)
+            self._count(scene, 1)
+            if scene[0] >= 0 and not self.counts_trunk and self.plot.is_trunk(scene):
+                self.in_trunk.append(scene)
 
-    def _count(self, scene):
-        """Counts a scene or an arrival; those of open scenes are not in the table."""
-        if scene[0] >= 0:
-            self.many += 1
+    def _count(self, scene, more):
+        if scene[0] >= 0 and (self.counts_trunk or not self.plot.is_trunk(scene)):
+            self.many += more
             if self.many > self.limit:
                 raise TooMany(self.limit)
 
-    def _need(self, scene):
-        if scene not in self.sure:
-            self._count(scene)
-            self.sure[scene] = {}
-            self.costs[scene] = {}
-            self.holders[scene] = {}
-            self.parting[scene] = []
-            self.joints_of[scene] = []
-            self.first_joints[scene] = []
-            self.second_joints[scene] = []
-            self.fresh.append(scene)
+    def settle(self):
+        """Finds all that comes of the scenes that are needed."""
+        while len(self.fresh) + len(self.grown) + len(self.due) > 0:
+            if len(self.fresh) > 0:
+                self._go_on(self.fresh.pop())
+            elif len(self.grown) > 0:
+                self._tell_others(self.grown.pop())
+            else:
+                # What arms come to together is looked at when as much of them is told as can be.
+                due = list(self.due)
+                self.due = {}
+                for scene in due:
+                    self._pair(scene)
 
     def _go_on(self, scene):
-        if not self.plot.parts(scene):
+        if self.plot.parts(scene):
+            self.led[scene] = 0
+            self._watch(scene, self.plot.first_arm(scene))
+            self.due[scene] = True
+        else:
             for later in self.plot.comings(scene):
-                self._lead(scene, later, self.weight(scene, later))
-            return
-        source, ahead = self._source_of(self.plot.first_arm(scene))
-        if not isinstance(source, int):
-            self.parting[source].append((scene, ahead))
-        for ended in (True, False):
-            if len(arrivals_of_kind(self._arrivals_of(source), ended)) > 0:
-                self._join(scene, source, ahead, ended)
+                self._lead(scene, later)
 
-    def weight(self, scene, later):
-        """What the step from a scene whose lanes do not part costs."""
-        if scene[0] >= 0:
-            return self.stride
-        code = later if isinstance(later, int) else later[2]
-        return self.plot.crowds.weight(-1 - scene[0], code)
-
-    def _lead(self, scene, later, ahead):
-        """All with which a later scene comes to its end is an arrival of a scene; ahead: what the way there costs."""
+    def _lead(self, scene, later):
+        """All with which a later scene comes to its end is an arrival of a scene."""
         if isinstance(later, int):
-            self._offer(scene, later, ahead)
-            return
-        self._need(later)
-        holders = self.holders[later]
-        if scene not in holders or ahead < holders[scene]:
-            holders[scene] = ahead
-            for arrival, cost in list(self.sure[later].items()):
-                self._offer(scene, arrival, ahead + cost)
+            self._add(scene, self.pairings.only(later))
+        else:
+            self.need(later)
+            self.holders[later].append(scene)
+            self._add(scene, self.sure[later])
 
-    def _offer(self, scene, arrival, cost):
-        costs = self.costs[scene]
-        if arrival not in costs:
-            self._count(scene)
-        if arrival not in costs or cost < costs[arrival]:
-            costs[arrival] = cost
-            heappush(self.queue, (cost, scene, arrival))
+    def _add(self, scene, arrivals):
+        more = arrivals & ~self.sure[scene]
+        if more > 0:
+            self.sure[scene] = self.sure[scene] | more
+            self.grown.append(scene)
+            self._count(scene, many_of(more))
 
-    def _tell_others(self, scene, arrival, cost):
-        """An arrival of a scene is settled."""
-        ended = arrival == 0
-        for holder, ahead in list(self.holders[scene].items()):
-            self._offer(holder, arrival, ahead + cost)
-        for joint in list(self.first_joints[scene]):
-            if joint.ended == ended:
-                self._lead_on(joint, joint.see_firsts({arrival: cost}))
-        for joint in list(self.second_joints[scene]):
-            self._lead_on(joint, joint.see_seconds({arrival: cost}))
-        if len(self.parting[scene]) > 0 and len(arrivals_of_kind(self.sure[scene], ended)) == 1:
-            for holder, ahead in list(self.parting[scene]):
-                self._join(holder, scene, ahead, ended)
+    def _tell_others(self, scene):
+        """A scene has more arrivals."""
+        arrivals = self.sure[scene]
+        for holder in self.holders[scene]:
+            self._add(holder, arrivals)
+        for watcher in self.watchers.get(scene, ()):
+            self.due[watcher] = True
 
-    def _arrivals_of(self, source):
-        return {source: 0} if isinstance(source, int) else self.sure[source]
+    def _watch(self, scene, arm):
+        """A scene that parts hangs on what comes of an arm."""
+        if not isinstance(arm, int):
+            self.need(arm)
+            self.watchers.setdefault(arm, {})[scene] = True
 
-    def _source_of(self, later):
-        """The source of an arm, and what the way there costs."""
-        ahead = 0
-        passed = {}
-        while not isinstance(later, int) and later not in passed:
-            self._need(later)
-            passed[later] = True
-            comings = [] if self.plot.parts(later) else self.plot.comings(later)
-            if len(comings) == 1:
-                ahead += self.weight(later, comings[0])
-                later = comings[0]
-        return (later, ahead)
+    def _pair(self, scene):
+        """Looks what the arms of a scene come to together."""
+        both = 0
+        for first, second, some in self._arms(scene):
+            self._watch(scene, second)
+            both = both | self.pairings.joined((first, second, some & 1), some, self.arrivals_of(second))
+        more = both & ~self.led[scene]
+        self.led[scene] = both
+        for code in self.pairings.codes(more):
+            self._lead(scene, self.plot.rest(scene, code))
 
-    def _join(self, scene, source, ahead, ended):
-        """The first arm of a scene can come to its end, with all its lanes ended or not; so there is the second one."""
-        other, more = self._source_of(self.plot.second_arm(scene, 0 if ended else 1))
-        if (source, other, ended) not in self.joints:
-            self._make_joint(source, other, ended)
-        joint = self.joints[(source, other, ended)]
-        joint.holders[scene] = self.stride + ahead + more
-        self.joints_of[scene].append(joint)
-        for both in list(joint.sums):
-            self._lead(scene, self.plot.rest(scene, both), joint.cost(scene, both))
+    def _arms(self, scene):
+        """Tuples (first arm, second arm, set): with these of its arrivals the first arm leads to such a second one."""
+        first = self.plot.first_arm(scene)
+        firsts = self.arrivals_of(first)
+        found = [(first, self.plot.second_arm(scene, 0), firsts & 1)] if firsts & 1 > 0 else []
+        if firsts & ~1 > 0:
+            found.append((first, self.plot.second_arm(scene, 1), firsts & ~1))
+        return found
 
-    def _make_joint(self, source, other, ended):
-        joint = Joint(ended, self.plot.crowds.counted)
-        self.joints[(source, other, ended)] = joint
-        joint.see_firsts(arrivals_of_kind(self._arrivals_of(source), ended))
-        joint.see_seconds(self._arrivals_of(other))
-        if not isinstance(source, int):
-            self.first_joints[source].append(joint)
-        if not isinstance(other, int):
-            self.second_joints[other].append(joint)
+    def arrivals_of(self, arm):
+        """The set of all with which an arm comes to its end."""
+        return self.pairings.only(arm) if isinstance(arm, int) else self.sure[arm]
 
-    def _lead_on(self, joint, codes):
-        """Scenes that part come to the ends of both arms with these crowds together."""
-        for holder in list(joint.holders):
-            for both in codes:
-                self._lead(holder, self.plot.rest(holder, both), joint.cost(holder, both))
+    def arms_of(self, scene):
+        """The scenes of the arms where the lanes of a scene part."""
+        arms = [self.plot.first_arm(scene), *[second for _, second, _ in self._arms(scene)]]
+        return [arm for arm in arms if not isinstance(arm, int)]
 
-    def nexts(self, scene):
-        """Tuples (cost, what comes, arms) of a scene: arms are the crowds of both arms, () if lanes do not part."""
+    def leads(self, scene):
+        """The scenes to which a scene leads, open ones among them."""
         if not self.plot.parts(scene):
-            return [(self.weight(scene, later), later, ()) for later in self.plot.comings(scene)]
-        return [
-            (joint.cost(scene, both), self.plot.rest(scene, both), joint.sums[both][1:])
-            for joint in self.joints_of[scene] for both in joint.sums
-        ]
+            return [later for later in self.plot.comings(scene) if not isinstance(later, int)]
+        rests = [self.plot.rest(scene, code) for code in self.pairings.codes(self.led[scene])]
+        return [*self.arms_of(scene), *[rest for rest in rests if not isinstance(rest, int)]]

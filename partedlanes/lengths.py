@@ -2,6 +2,7 @@
 
 from partedlanes.checks import is_whole
 from partedlanes.claims import Claims
+from partedlanes.countdowns import Countdown
 from partedlanes.errors import NoScene
 from partedlanes.guards import PILE_RULES, ask_most, ask_program, ask_rule
 from partedlanes.loads import are_datas
@@ -9,9 +10,12 @@ from partedlanes.longest import Longest
 from partedlanes.machines import Machine
 from partedlanes.plots import Plot, is_scene
 from partedlanes.readings import is_arrival, read_scenes
+from partedlanes.roads import joins_of
 from partedlanes.sets import Sets
 from partedlanes.showings import datas_of
-from partedlanes.treks import carry, trek_along, ways
+from partedlanes.sketches import sketch_of
+from partedlanes.straights import takings_along
+from partedlanes.treks import carry, trek_along
 from partedlanes.weaves import Weave
 
 
@@ -19,57 +23,59 @@ class Steps:
     """The greatest numbers of steps of the machines of a program, of any number of lanes with any data."""
 
     def __init__(self, program, *, rule="told", limit=4000):
-        sets = Sets(program, rule=rule, limit=limit)
-        longest = Longest(sets.found)
-        endless = len(longest.circle) > 0
         self.program = program
-        self.known = sets.known
-        self.longest = longest
-        self.endless = endless
-        self.greatest = None if endless else longest.lengths[longest.start]
-        self.wait = None if endless else longest.wait
-        self.told_lengths = {longest.plot.tell(scene): longest.lengths[scene] for scene in longest.lengths}
+        self.sketch = sketch_of(program, rule, limit)
+        self.lengths = _lengths_of(self.sketch)
+        self.greatest = self.lengths.greatest
+        self.wait = self.lengths.wait
 
     def __contains__(self, value):
-        return is_scene(self.program, value, False) and value in self.known
+        return is_scene(self.program, value, False) and self.sketch.holds(self.sketch.coded(value))
 
     def __len__(self):
-        return len(self.known)
+        return len(self.sketch.all_scenes())
 
     def __getitem__(self, scene):
         if scene not in self:
             raise NoScene(scene)
-        return None if self.endless else self.told_lengths[scene]
+        return None if self.lengths.endless else self.lengths.length(self.sketch.coded(scene))
 
     def __iter__(self):
         raise TypeError("take the table of the steps to go over them")
 
     def is_endless(self):
         """Whether there is a ring."""
-        return self.endless
+        return self.lengths.endless
 
     def ring(self):
         """A list of scenes each of which leads to the next one, the last one to the first, or None."""
-        if not self.endless:
+        if not self.lengths.endless:
             return None
-        plot = self.longest.plot
-        return [plot.tell(scene) for scene in self.longest.circle if not plot.is_open(scene)]
+        return [self.sketch.full_plot().tell(scene) for scene in self.lengths.ring()]
 
     def numbers(self, scene):
         """Tuples (arrival, number) of a scene, ascending, None if the program is endless."""
         if scene not in self:
             raise NoScene(scene)
-        if self.endless:
-            return None
-        plot = self.longest.plot
-        numbers = self.longest.sure[plot.coded(scene)]
-        return sorted([(plot.crowds.crowd_of(arrival), numbers[arrival]) for arrival in numbers])
+        return None if self.lengths.endless else self._numbers(self.sketch.coded(scene))
+
+    def _numbers(self, scene):
+        crowds = self.sketch.full_plot().crowds
+        return sorted([(crowds.crowd_of(code), number) for code, number in self.lengths.numbers_of(scene)])
 
     def table(self):
         """Tuples (scene, length, numbers) of all scenes, ascending, None if the program is endless."""
-        if self.endless:
+        if self.lengths.endless:
             return None
-        return [(scene, self.told_lengths[scene], self.numbers(scene)) for scene in self.known]
+        plot = self.sketch.full_plot()
+        return sorted([
+            (plot.tell(scene), self.lengths.length(scene), self._numbers(scene)) for scene in self.sketch.all_scenes()
+        ])
+
+
+def _lengths_of(sketch):
+    """The lengths of the scenes of a sketch."""
+    return Countdown(sketch) if sketch.arms is None else Longest(sketch.plot, sketch.start)
 
 
 def leads(program, scene, *, rule="told", limit=4000):
@@ -77,7 +83,7 @@ def leads(program, scene, *, rule="told", limit=4000):
     sets = Sets(program, rule=rule, limit=limit)
     if scene not in sets:
         raise NoScene(scene)
-    return _led_to(sets.found, scene)
+    return _led_to(sets.sketch, scene)
 
 
 def is_ring(program, value, *, rule="told", limit=4000):
@@ -85,14 +91,14 @@ def is_ring(program, value, *, rule="told", limit=4000):
     sets = Sets(program, rule=rule, limit=limit)
     if not isinstance(value, list) or len(value) == 0 or not all([scene in sets for scene in value]):
         return False
-    return all([later in _led_to(sets.found, scene) for scene, later in zip(value, [*value[1:], value[0]])])
+    return all([later in _led_to(sets.sketch, scene) for scene, later in zip(value, [*value[1:], value[0]])])
 
 
-def _led_to(found, scene):
+def _led_to(sketch, scene):
     """The scenes to which a scene leads; scenes as the document has them."""
-    plot = found.plot
-    laters = [way[1] for way in ways(found, plot.coded(scene))]
-    shown = [way[1] for later in laters if plot.is_open(later) for way in ways(found, later)]
+    plot, least = sketch.full_plot(), sketch.whole_table()
+    laters = least.leads(sketch.coded(scene))
+    shown = [after for later in laters if plot.is_open(later) for after in least.leads(later)]
     return sorted(set([plot.tell(later) for later in [*laters, *shown] if not plot.is_open(later)]))
 
 
@@ -100,7 +106,7 @@ def is_steps_table(program, rule, value):
     """Whether any value tells lengths and numbers of scenes that nothing that can come exceeds."""
     ask_program(program)
     ask_rule(rule, PILE_RULES)
-    plot = Plot(program, rule, False)
+    plot = Plot(program, joins_of(program, rule), False)
     scenes = read_scenes(plot, value, 3)
     if scenes is None or plot.first_scene(1) not in scenes:
         return False
@@ -140,12 +146,15 @@ def _is_enough(claims, scene):
 
 def lanes_for_most(program, *, rule="told", limit=4000):
     """Data of lanes whose machine does as many steps as any, None if there is no greatest number of steps."""
-    longest = Longest(Sets(program, rule=rule, limit=limit).found)
-    if len(longest.circle) > 0:
+    sketch = sketch_of(program, rule, limit)
+    lengths = _lengths_of(sketch)
+    if lengths.endless:
         return None
-    weave = Weave(longest.plot)
-    carry(longest, trek_along(longest, longest.leads_to_most()), weave)
-    return datas_of(weave)
+    if sketch.arms is None:
+        return datas_of(takings_along(sketch, lengths.way_to_most()))
+    weave = Weave(sketch.plot)
+    carry(lengths, trek_along(lengths, lengths.leads_to_most()), weave)
+    return datas_of(weave.takings())
 
 
 def is_longer(program, datas, steps, *, rule="told"):

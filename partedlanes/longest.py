@@ -6,34 +6,101 @@ from partedlanes.unions import arrivals_of_kind, grouped
 
 
 class Longest:
-    """The greatest numbers of steps from the scenes of a least table on.
+    """The greatest numbers of steps from the scenes on that can come from a first one.
 
-    `circle` is a ring of its scenes, or []; if there is one, nothing else is told. `sure` is a dict of all scenes, each
-    with a dict of its arrivals and their numbers, `lengths` one of their lengths; `wait` is how long a lane can wait.
+    `circle` is a ring of them, or []; if there is one, nothing else is told. `sure` is a dict of all scenes, each with
+    a dict of its arrivals and their numbers, `lengths` one of their lengths; `wait` is how long a lane can wait.
     """
 
-    def __init__(self, found):
-        self.plot = found.plot
-        self.start = found.start
+    def __init__(self, plot, start):
+        self.plot = plot
+        self.start = start
         self.stride = 1
         self.sure = {}
         self.lengths = {}
         self.tails = {}
-        self.wait = 0
-        self.claims = Claims(found.plot, self.lengths, self.sure)
-        leads = {scene: [way[1] for way in ways(found, scene)] for scene in found.sure}
-        order, self.circle = ordered(found.start, leads)
-        if len(self.circle) == 0:
-            for scene in order:
-                self.lengths[scene], self.sure[scene] = self.claims.asked(scene)
-                self.tails[scene] = self._tails_of(scene)
+        self.told_arms = {}
+        self.circle = []
+        self.longest_wait = 0
+        self.claims = Claims(plot, self.lengths, self.sure)
+        self._go_deep()
+        self.endless = len(self.circle) > 0
+        self.greatest = None if self.endless else self.lengths[start]
+        self.wait = None if self.endless else self.longest_wait
+
+    def _go_deep(self):
+        """Tells scenes behind all those that they lead to, until one leads back to a scene that is not told yet."""
+        left = [self.start]
+        road = {}
+        while len(left) > 0 and len(self.circle) == 0:
+            scene = left[-1]
+            missing = [] if scene in self.lengths else self._missing(scene)
+            if len(missing) == 0:
+                left.pop()
+                if scene not in self.lengths:
+                    self._tell(scene)
+                    road.pop(scene, None)
+            else:
+                road[scene] = True
+                left.extend(missing)
+                back = [later for later in missing if later in road]
+                if len(back) > 0:
+                    self.circle = list(road)[list(road).index(back[0]):]
+
+    def _missing(self, scene):
+        """Scenes that have to be told ahead of a scene, as far as can be seen yet; none if it can be told."""
+        if not self.plot.parts(scene):
+            return self._not_told(self.plot.comings(scene))
+        first = self.plot.first_arm(scene)
+        if len(self._not_told([first])) > 0:
+            return [first]
+        firsts = {first: 0} if isinstance(first, int) else self.sure[first]
+        seconds = [
+            self.plot.second_arm(scene, 0 if ended else 1) for ended in (True, False)
+            if len(arrivals_of_kind(firsts, ended)) > 0
+        ]
+        missing = self._not_told(seconds)
+        if len(missing) == 0 and scene not in self.told_arms:
+            self.told_arms[scene] = self.claims.told_of_arms(scene)
+            missing = self._not_told([self.plot.rest(scene, both) for both in self.told_arms[scene][1]])
+        return missing
+
+    def _not_told(self, laters):
+        return [later for later in laters if not isinstance(later, int) and later not in self.lengths]
+
+    def _tell(self, scene):
+        if self.plot.parts(scene):
+            length, sums = self.told_arms[scene]
+            ways_on = [(1 + sums[both][0], self.plot.rest(scene, both)) for both in sums]
+            waits = self._waits_of_arms(scene)
+            comings = [(waits[both], self.plot.rest(scene, both)) for both in waits]
+        else:
+            ahead = 0 if self.plot.is_open(scene) else 1
+            length = 0
+            laters = self.plot.comings(scene)
+            ways_on = [(ahead, later) for later in laters]
+            comings = [(0, later) for later in laters]
+        self.lengths[scene], self.sure[scene] = self.claims.asked_behind(ways_on, length)
+        self.tails[scene] = self._tails_behind(comings)
+
+    def length(self, scene):
+        """The length of a scene."""
+        return self.lengths[scene]
+
+    def numbers_of(self, scene):
+        """Tuples (number of a crowd, number of steps) of the arrivals of a scene."""
+        return list(self.sure[scene].items())
+
+    def ring(self):
+        """Scenes each of which leads to the next one, the last one to the first, if there is such a ring."""
+        return [scene for scene in self.circle if not self.plot.is_open(scene)]
 
     def nexts(self, scene):
         """Tuples (steps, what comes, arms) of a scene, as those of a least table."""
         if not self.plot.parts(scene):
             ahead = 0 if self.plot.is_open(scene) else 1
             return [(ahead, later, ()) for later in self.plot.comings(scene)]
-        sums = self.claims.arms(scene)[1]
+        sums = self.told_arms[scene][1]
         return [(1 + sums[both][0], self.plot.rest(scene, both), sums[both][1:]) for both in sums]
 
     def leads_to_most(self):
@@ -54,15 +121,14 @@ class Longest:
                 return (scene, later, arms)
         return ()
 
-    def _tails_of(self, scene):
-        """How long the lanes of each arrival can have waited when the entry is over; tells how long others wait."""
-        if self.plot.parts(scene):
-            waits = self._waits_of_arms(scene)
-            return self._tails_behind([(waits[both], self.plot.rest(scene, both)) for both in waits])
-        return self._tails_behind([(0, later) for later in self.plot.comings(scene)])
-
     def _tails_behind(self, comings):
-        """The same for tuples (how long lanes have waited, what comes then)."""
+        """How long the lanes of each arrival can have waited when an entry is over; tells how long others wait.
+
+        comings: tuples (how long lanes have waited, what comes then).
+        """
+        if len(comings) == 1 and not isinstance(comings[0][1], int):
+            self._see_wait(comings[0][1], comings[0][0])
+            return self.tails[comings[0][1]]
         tails = {}
         for wait, later in comings:
             if isinstance(later, int):
@@ -77,7 +143,7 @@ class Longest:
     def _see_wait(self, scene, wait):
         """Lanes that have waited come to a scene, where they go on, if it goes on."""
         if not self.plot.is_stuck(scene):
-            self.wait = max(self.wait, wait)
+            self.longest_wait = max(self.longest_wait, wait)
 
     def _waits_of_arms(self, scene):
         """A dict of the crowds of both arms together, and how long lanes of them can have waited when both are over."""
@@ -102,25 +168,3 @@ class Longest:
         if isinstance(arm, int):
             return {arm: (0, waited if arm > 0 else 0)}
         return {arrival: (self.sure[arm][arrival], self.tails[arm][arrival]) for arrival in self.sure[arm]}
-
-
-def ordered(start, leads):
-    """All nodes to which leads go, those to which a node leads ahead of it, and a ring, [] if there is none."""
-    order, road = [], []
-    done = {}
-    left = [start]
-    while len(left) > 0:
-        node = left[-1]
-        if node not in done:
-            done[node] = False
-            road.append(node)
-            for later in leads[node]:
-                if later in done and not done[later]:
-                    return (order, road[road.index(later):])
-            left.extend([later for later in leads[node] if later not in done])
-        else:
-            left.pop()
-            if not done[node]:
-                done[node] = True
-                order.append(road.pop())
-    return (order, [])

@@ -7,14 +7,19 @@ from partedlanes.plots import Plot
 from partedlanes.programs import Program
 from partedlanes.readings import read_table
 from partedlanes.roads import joins_of
-from partedlanes.unions import arrivals_of_kind
+from partedlanes.tellings import told_arrivals
 
 
 def is_piece(program, rule, value):
     """Whether any value is a piece of a table."""
+    return _read_piece(_plot_of(program, rule), value) is not None
+
+
+def _plot_of(program, rule):
+    """The plot of any values; refuses those of which there is none."""
     ask_program(program)
     ask_rule(rule, PILE_RULES)
-    return _read_piece(Plot(program, rule, False), value) is not None
+    return Plot(program, joins_of(program, rule), False)
 
 
 def _read_piece(plot, value):
@@ -41,39 +46,26 @@ def _read_pieces(plot, value):
 def pieces_of(sets):
     """The table of scenes that can come as a list of pieces, one for each of their joins, ascending."""
     by_joins = {}
-    for scene in sets.scenes():
+    for scene in sets.sketch.all_scenes():
         by_joins.setdefault(scene[1], []).append(scene)
-    return [_piece_of(sets, by_joins[join]) for join in sorted(list(by_joins))]
+    return [_piece_of(sets.sketch, by_joins[join]) for join in sorted(list(by_joins))]
 
 
-def _piece_of(sets, scenes):
-    arms = {arm: True for scene in scenes for arm in _arms_of(sets.found, scene) if arm[1] != scene[1]}
-    told, assumed = [
-        [(scene, sets.arrivals(scene)) for scene in part] for part in (scenes, sorted(list(arms)))
-    ]
-    return (told, assumed)
+def _piece_of(sketch, scenes):
+    arms = {arm: True for scene in scenes for arm in _arms_of(sketch, scene) if arm[1] != scene[1]}
+    return (sketch.told(scenes), sketch.told(list(arms)))
 
 
-def _arms_of(found, scene):
+def _arms_of(sketch, scene):
     """The scenes of the arms where the lanes of a scene part."""
-    plot = found.plot
-    coded = plot.coded(scene)
-    if not plot.parts(coded):
+    if sketch.arms is None or not sketch.plot.parts(scene):
         return []
-    first = plot.first_arm(coded)
-    firsts = {first: 0} if isinstance(first, int) else found.sure[first]
-    arms = [first]
-    for ended in (True, False):
-        if len(arrivals_of_kind(firsts, ended)) > 0:
-            arms.append(plot.second_arm(coded, 0 if ended else 1))
-    return [plot.tell(arm) for arm in arms if not isinstance(arm, int)]
+    return sketch.whole_table().arms_of(scene)
 
 
 def unkept(program, rule, pieces):
     """The first tuple (number of a piece, scene) whose assumption is not kept by the pieces, or None."""
-    ask_program(program)
-    ask_rule(rule, PILE_RULES)
-    plot = Plot(program, rule, False)
+    plot = _plot_of(program, rule)
     return _first_unkept(plot, _read_pieces(plot, pieces))
 
 
@@ -98,25 +90,22 @@ def _joined(parts):
 
 def joined_pieces(program, rule, pieces):
     """The table of all scenes that pieces tell."""
-    ask_program(program)
-    ask_rule(rule, PILE_RULES)
-    plot = Plot(program, rule, False)
+    plot = _plot_of(program, rule)
     parts = _read_pieces(plot, pieces)
     table = _joined(parts)
     if plot.first_scene(1) not in table or _first_unkept(plot, parts) is not None:
         raise BadPaper(pieces)
     return sorted([
-        (plot.tell(scene), sorted([plot.crowds.crowd_of(arrival) for arrival in table[scene]])) for scene in table
+        (plot.tell(scene), told_arrivals(plot, table[scene])) for scene in table
     ])
 
 
 def touched_pieces(program, other, rule, pieces):
     """The numbers of the pieces that may be none for another program, ascending."""
-    ask_program(program)
-    ask_rule(rule, PILE_RULES)
+    plot = _plot_of(program, rule)
     if not _is_alike_in_form(program, other):
         raise BadProgram(other)
-    parts = _read_pieces(Plot(program, rule, False), pieces)
+    parts = _read_pieces(plot, pieces)
     rows = _touched_rows(program, other, rule)
     return [number for number, (told, _) in enumerate(parts) if any([scene[0] in rows for scene in told])]
 

@@ -3,11 +3,10 @@
 from partedlanes.acts import first_class
 from partedlanes.checks import is_between
 from partedlanes.crowds import Crowds, is_crowd
-from partedlanes.roads import joins_of
 
 
 class Plot:
-    """How the scenes of a program go on, by a rule that keeps a pile.
+    """How the scenes of a program go on, whose branches rejoin as a dict of joins tells.
 
     A scene is a tuple (row, join, number of its crowd, outside) here. What comes is another scene, or a number
     where the entry is over: that of the crowd at its join, or 0 if all its lanes have ended.
@@ -16,11 +15,11 @@ class Plot:
     yet told. It is no scene of the document, but many takes share it, and all that can come of it.
     """
 
-    def __init__(self, program, rule, counted):
+    def __init__(self, program, joins, counted):
         self.program = program
         self.end = program.end
         self.crowds = Crowds(program, counted)
-        self.joins = joins_of(program, rule)
+        self.joins = joins
         self.words = [row[0] for row in program.rows]
 
     def first_scene(self, lanes):
@@ -40,6 +39,10 @@ class Plot:
         """Whether a scene is an open one, of lanes that have taken something."""
         return scene[0] < 0
 
+    def is_trunk(self, scene):
+        """Whether a scene has the end as its join, and no lanes outside."""
+        return scene[1] == self.end and not scene[3]
+
     def parts(self, scene):
         """Whether the lanes of a scene part."""
         row = scene[0]
@@ -50,30 +53,34 @@ class Plot:
 
     def is_stuck(self, scene):
         """Whether a scene is one of a meeting to which not all lanes have come."""
-        return scene[0] >= 0 and self.words[scene[0]] == "meet" and scene[3]
+        return scene[3] and scene[0] >= 0 and self.words[scene[0]] == "meet"
 
     def comings(self, scene):
         """All that can come behind one step of lanes that do not part."""
         row, join, code, outside = scene
         if row < 0:
-            codes = self.crowds.spread(-1 - row, code)
-            return [self._coming(-row, join, later, outside) for later in codes]
-        if self.is_stuck(scene):
-            return []
-        later = self.crowds.moved(row, code)
-        if self.words[row] == "take":
-            return [(-1 - row, join, later, outside)]
-        return [self._coming(self._way(row, code), join, later, outside)]
-
-    def _way(self, row, code):
-        """The row at which lanes that do not part go on."""
+            return self._shown(-row, join, self.crowds.spread(-1 - row, code), outside)
         word = self.words[row]
+        if word == "take":
+            return [(-1 - row, join, self.crowds.moved(row, code), outside)]
+        if word == "meet" and outside:
+            return []
+        later = self._way(row, word, code)
+        return [self._coming(later, join, self.crowds.moved(row, code), outside)]
+
+    def _shown(self, row, join, codes, outside):
+        """What comes of crowds that are at a row with what they have taken."""
+        if row == self.end:
+            return [0]
+        return codes if row == join else [(row, join, code, outside) for code in codes]
+
+    def _way(self, row, word, code):
+        """The row at which lanes that do not part go on."""
         if word == "go":
             return self.program.rows[row][1]
-        if word == "end":
-            return self.end
-        goes = word == "if" and self.crowds.parted(row, code)[1] > 0
-        return self.program.rows[row][3] if goes else row + 1
+        if word == "if":
+            return self.program.rows[row][3] if self.crowds.parted(row, code)[1] > 0 else row + 1
+        return self.end if word == "end" else row + 1
 
     def first_arm(self, scene):
         """What comes of the lanes that go to the next row, where lanes part."""

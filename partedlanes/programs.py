@@ -89,9 +89,9 @@ class Program:
 
     def _changed_at(self, place):
         kinds = self.classes()
-        return [
-            {kind: (*kind[:place], value, *kind[place + 1:]) for kind in kinds} for value in range(self.size)
-        ]
+        if place == 0:
+            return [{kind: (value, *kind[1:]) for kind in kinds} for value in range(self.size)]
+        return [{kind: (kind[0], value) for kind in kinds} for value in range(self.size)]
 
     def with_row(self, index, row):
         """A program with another row."""

@@ -32,12 +32,13 @@ def ways(found, scene):
     return [*first_ways, *[way for way in seconds if not isinstance(way[1], int)], *later_ways]
 
 
-def cheapest_leads(found, goals):
+def cheapest_leads(found, start, goals, near):
     """How the scene among the goals to which the way costs least is come to: (cost, leads).
 
-    Leads are tuples (scene, what comes, arms), one behind another.
+    Leads are tuples (scene, what comes, arms), one behind another. near: a dict of rows with the crowds of the trunk
+    from which goals may be come to, or None if this is not known.
     """
-    queue = [(0, found.start, ())]
+    queue = [(0, start, ())]
     leads = {}
     while len(queue) > 0:
         cost, scene, lead = heappop(queue)
@@ -46,9 +47,14 @@ def cheapest_leads(found, goals):
             if scene in goals:
                 return (cost, _leads_to(scene, leads))
             for ahead, later, arms in ways(found, scene):
-                if later not in leads:
+                if later not in leads and _may_help(found.plot, later, near):
                     heappush(queue, (cost + ahead, later, (scene, later, arms)))
     return None
+
+
+def _may_help(plot, scene, near):
+    row, _, code, _ = scene
+    return near is None or row < 0 or not plot.is_trunk(scene) or (near.get(row, 0) >> code) & 1 == 1
 
 
 def _leads_to(scene, leads):

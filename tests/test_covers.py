@@ -3,9 +3,12 @@
 import itertools
 import unittest
 
+from partedlanes.costs import STEP, Costs
 from partedlanes.covers import Cover
-from partedlanes.least import STEP
+from partedlanes.lanes import Data
+from partedlanes.machines import Machine
 from partedlanes.sets import Sets
+from partedlanes.straights import straight_way, takings_along
 from partedlanes.treks import cheapest_leads
 from tests.literal import chances
 from tests.literal_scenes import Rules
@@ -56,16 +59,51 @@ class TestFewestSteps(unittest.TestCase):
             rules = Rules(program, rule)
             table = rules.least()
             steps, numbers = rules.shortest(table)
-            found = Sets(program, rule=rule).found
-            for scene in found.sure:
-                if scene[0] >= 0:
-                    told = {found.plot.crowds.crowd_of(arrival): cost // STEP
-                            for arrival, cost in found.sure[scene].items()}
-                    self.assertEqual(told, numbers[found.plot.tell(scene)], (program.rows, rule))
-            for scene in chance.sample(sorted(table), min(len(table), 5)):
-                cost, leads = cheapest_leads(found, [found.plot.coded(scene)])
-                self.assertEqual(cost // STEP, steps[scene], (program.rows, rule))
-                self.assertEqual([lead[1] for lead in leads][-1:], [found.plot.coded(scene)] if leads else [])
+            sketch = Sets(program, rule=rule).sketch
+            plot, costs = sketch.full_plot(), Costs(sketch.full_plot())
+            scenes = sketch.all_scenes()
+            chance.shuffle(scenes)
+            for scene in scenes:
+                told = {plot.crowds.crowd_of(arrival): cost // STEP for arrival, cost in costs.costs_of(scene).items()}
+                self.assertEqual(told, numbers[plot.tell(scene)], (program.rows, rule))
+            for scene in chance.sample(scenes, min(len(scenes), 5)):
+                # Whatever is known of the scenes from which the goal may be come to, the way costs as much.
+                near = None
+                if plot.is_trunk(scene):
+                    near = sketch.that_come_to({scene[0]: 1 << scene[2]}, False)
+                for known in (None, near):
+                    cost, leads = cheapest_leads(Costs(plot), sketch.start, {scene: True}, known)
+                    self.assertEqual(cost // STEP, steps[plot.tell(scene)], (program.rows, rule))
+                    self.assertEqual([lead[1] for lead in leads][-1:], [scene] if leads else [])
+
+    def test_straight_ways_have_the_fewest_steps_without_partings(self):
+        found = {True: 0, False: 0}
+        for chance, program, rule in programs(120):
+            rules = Rules(program, rule)
+            sketch = Sets(program, rule=rule).sketch
+            plot = sketch.full_plot()
+            steps, _ = rules.shortest(rules.least())
+            for scene in [scene for scene in sketch.all_scenes() if plot.is_trunk(scene)]:
+                way = straight_way(sketch, scene[0], scene[2], 1000)
+                found[way is not None] += 1
+                if sketch.arms is None:
+                    self.assertEqual(len(way) - 1, steps[plot.tell(scene)])
+                if way is not None:
+                    self.goes_straight(program, rule, sketch, way)
+                    if len(way) > 1:
+                        self.assertIsNone(straight_way(sketch, scene[0], scene[2], len(way) - 1))
+                        self.assertEqual(straight_way(sketch, scene[0], scene[2], len(way)), way)
+        self.assertGreater(min(found.values()), 5, found)
+
+    def goes_straight(self, program, rule, sketch, way):
+        """A machine of the lanes that are told has just the crowds of the way, all lanes together."""
+        takings = takings_along(sketch, way)
+        machine = Machine(program, [Data(*values) for values in takings], rule=rule)
+        for row, code in way:
+            self.assertEqual(machine.pile()[-1][0], row)
+            kinds = {machine.registers_of(lane) for lane in range(len(takings))}
+            self.assertEqual(sorted(kinds), sketch.crowd_of(code))
+            machine.step()
 
 
 if __name__ == "__main__":

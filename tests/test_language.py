@@ -40,6 +40,7 @@ BARRED_NODES = (
     ast.Global, ast.AsyncFor, ast.AsyncWith, ast.AsyncFunctionDef, ast.Await, ast.Import, ast.AnnAssign, ast.Div,
     ast.NamedExpr, ast.GeneratorExp, ast.Yield, ast.YieldFrom, ast.MatMult,
 )
+CHANGING = set("append clear extend insert pop remove reverse setdefault update sort add discard".split())
 LIBRARY = {"heapq", "math", "itertools"}
 
 
@@ -274,6 +275,37 @@ class TestLanguage(unittest.TestCase):
                             and not isinstance(part.ctx, ast.Load)]
                 self.assertEqual(changes, [], path)
 
+    def test_operators_and_all_that_they_call_change_nothing(self):
+        named = {}
+        for path, node in functions():
+            named.setdefault(node.name, []).append((path, node))
+        still = DOUBLE - {"__init__", "__setitem__", "__enter__", "__exit__", "__call__", "__iter__"}
+        left = [entry for name in still for entry in named.get(name, [])]
+        reached = []
+        while left:
+            path, node = left.pop()
+            if node not in reached:
+                reached.append(node)
+                self.assertEqual(changes_of(node), [], f"L5: {path.name}, {node.name}")
+                # Methods are told by their names alone: whichever class has one, it must not change anything.
+                called = [part.func for part in ast.walk(node) if isinstance(part, ast.Call)]
+                names = [part.attr if isinstance(part, ast.Attribute) else getattr(part, "id", "") for part in called]
+                left += [entry for name in names for entry in named.get(name, [])]
+        self.assertGreater(len(reached), 40)
+
+    def test_calls_with_stars(self):
+        found = []
+        for path, node in NODES:
+            if isinstance(node, ast.Call):
+                stars = [part.value for part in node.args if isinstance(part, ast.Starred)]
+                found += [(path, node.lineno, ast.unparse(part)) for part in stars
+                          if not isinstance(part, (ast.Name, ast.List, ast.Tuple))
+                          and not (isinstance(part, ast.Attribute) and isinstance(part.value, ast.Name))]
+        self.check("L7", found)
+
+    def test_names_of_classes_begin_with_letters(self):
+        self.check("L12", [(path, node.lineno, node.name) for path, node in classes() if not node.name[0].isupper()])
+
     def test_no_name_is_a_method_and_an_attribute_of_one_class(self):
         for path, node in classes():
             methods = {part.name for part in node.body if isinstance(part, ast.FunctionDef)}
@@ -319,6 +351,25 @@ def stars_in_indexes(trees):
     """All stars that stand between the brackets of an index."""
     return [(path, part.lineno, ast.unparse(node)) for path, tree in trees.items() for node in ast.walk(tree)
             if isinstance(node, ast.Subscript) for part in ast.walk(node.slice) if isinstance(part, ast.Starred)]
+
+
+def changes_of(function):
+    """What a function changes, but for its own lists and numbers."""
+    own = {target.id for part in ast.walk(function) if isinstance(part, ast.Assign) for target in part.targets
+           if isinstance(target, ast.Name) and (isinstance(part.value, (ast.List, ast.ListComp)) or (
+               isinstance(part.value, ast.Call) and ast.unparse(part.value.func) in ("list", "sorted")))}
+    found = []
+    for part in ast.walk(function):
+        if isinstance(part, (ast.Attribute, ast.Subscript)) and not isinstance(part.ctx, ast.Load):
+            found.append(ast.unparse(part))
+        if isinstance(part, ast.AugAssign):
+            steady = isinstance(part.op, (ast.Add, ast.Sub, ast.FloorDiv)) and isinstance(part.target, ast.Name)
+            steady = steady and (isinstance(part.value, ast.Constant) or not isinstance(part.op, ast.Add))
+            found += [] if steady else [ast.unparse(part)]
+        if isinstance(part, ast.Call) and isinstance(part.func, ast.Attribute) and part.func.attr in CHANGING:
+            if not (isinstance(part.func.value, ast.Name) and part.func.value.id in own):
+                found.append(ast.unparse(part))
+    return found
 
 
 def top_names(node):

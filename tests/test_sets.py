@@ -2,13 +2,14 @@
 
 import unittest
 
+from partedlanes.costs import Costs
 from partedlanes.errors import BadNumber, BadProgram, BadRule, NoScene, TooMany
 from partedlanes.machines import Machine
 from partedlanes.programs import Program
 from partedlanes.roads import unnested
 from partedlanes.sets import Sets
-from partedlanes.showings import come_to, datas_of
-from partedlanes.treks import carry
+from partedlanes.showings import datas_of
+from partedlanes.treks import carry, cheapest_leads, trek_along
 from partedlanes.weaves import Weave
 from tests.helpers import NO_INTEGERS, STRANGE, Everything, error_of, refused
 from tests.literal import chances, some_data, some_program
@@ -351,28 +352,29 @@ class TestLeastTables(unittest.TestCase):
     def test_all_that_is_told_comes_with_some_lanes(self):
         shown = 0
         for chance, program, rule in programs(100):
-            found = Sets(program, rule=rule).found
-            scenes = [scene for scene in found.sure if scene[0] >= 0]
-            all_told = [(scene, arrival) for scene in scenes for arrival in (None, *found.sure[scene])]
+            sketch = Sets(program, rule=rule).sketch
+            all_told = [(scene, arrival) for scene in sketch.all_scenes() for arrival in (None, *sketch.arrivals(scene))]
             for scene, arrival in chance.sample(all_told, min(len(all_told), 30)):
-                self.show(program, rule, found, scene, arrival)
+                self.show(program, rule, sketch, scene, arrival)
                 shown += 1
         self.assertGreater(shown, 3000)
 
-    def show(self, program, rule, found, scene, arrival):
+    def show(self, program, rule, sketch, scene, arrival):
         """A machine comes to the scene, and then with the arrival to its end."""
-        weave = Weave(found.plot)
-        come_to(found, [scene], weave)
+        plot = sketch.full_plot()
+        weave, costs = Weave(plot), Costs(plot)
+        carry(costs, trek_along(costs, cheapest_leads(costs, sketch.start, {scene: True}, None)[1]), weave)
         if arrival is None:
             weave.visit(scene[0])
         else:
-            carry(found, [("finish", scene, arrival)], weave)
+            carry(costs, [("finish", scene, arrival)] if arrival in costs.costs_of(scene) else [], weave)
             if arrival > 0:
                 weave.visit(scene[1])
-        machine = Machine(program, datas_of(weave), rule=rule)
-        crowd = None if arrival is None else found.plot.crowds.crowd_of(arrival)
+        machine = Machine(program, datas_of(weave.takings()), rule=rule)
+        crowd = None if arrival is None else plot.crowds.crowd_of(arrival)
         seen = arrivals_seen(machine, uncounted, 1000)
-        self.assertTrue((found.plot.tell(scene), crowd) in seen, (program.rows, rule, scene, crowd))
+        self.assertTrue((plot.tell(scene), crowd) in seen, (program.rows, rule, scene, crowd))
+
 
 
 class TestEnds(unittest.TestCase):
