@@ -33,12 +33,6 @@ class Costs:
         self.fresh = []
         self.queue = []
 
-    def costs_of(self, scene):
-        """A dict of the arrivals of a scene and their least costs."""
-        self._need(scene)
-        self._settle()
-        return self.sure[scene]
-
     def _settle(self):
         while len(self.fresh) + len(self.queue) > 0:
             if len(self.fresh) > 0:

@@ -16,7 +16,6 @@ class Weave:
         self.kinds = []
         self.places = []
         self.behind = []
-        self.last = {}
 
     def _visited(self, bunch, row):
         """New nodes for all classes of a bunch that does a row, as a dict."""

@@ -12,7 +12,7 @@ from partedlanes.straights import straight_way, takings_along
 from partedlanes.treks import cheapest_leads
 from tests.literal import chances
 from tests.literal_scenes import Rules
-from tests.test_sets import programs
+from tests.test_sets import costs_of, programs
 
 
 def graph(chance, many):
@@ -64,7 +64,7 @@ class TestFewestSteps(unittest.TestCase):
             scenes = sketch.all_scenes()
             chance.shuffle(scenes)
             for scene in scenes:
-                told = {plot.crowds.crowd_of(arrival): cost // STEP for arrival, cost in costs.costs_of(scene).items()}
+                told = {plot.crowds.crowd_of(arrival): cost // STEP for arrival, cost in costs_of(costs, scene).items()}
                 self.assertEqual(told, numbers[plot.tell(scene)], (program.rows, rule))
             for scene in chance.sample(scenes, min(len(scenes), 5)):
                 # Whatever is known of the scenes from which the goal may be come to, the way costs as much.

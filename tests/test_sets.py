@@ -78,6 +78,13 @@ def arrivals_seen(machine, crowd_of, most=60):
             return
 
 
+def costs_of(costs, scene):
+    """The arrivals of a scene, and what they cost."""
+    costs._need(scene)
+    costs._settle()
+    return costs.sure[scene]
+
+
 def uncounted(machine, lanes):
     return tuple(sorted({machine.registers_of(lane) for lane in lanes}))
 
@@ -367,7 +374,8 @@ class TestLeastTables(unittest.TestCase):
         if arrival is None:
             weave.visit(scene[0])
         else:
-            carry(costs, [("finish", scene, arrival)] if arrival in costs.costs_of(scene) else [], weave)
+            self.assertIn(arrival, costs_of(costs, scene))
+            carry(costs, [("finish", scene, arrival)], weave)
             if arrival > 0:
                 weave.visit(scene[1])
         machine = Machine(program, datas_of(weave.takings()), rule=rule)
