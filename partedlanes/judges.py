@@ -59,7 +59,8 @@ class Judge:
         if not self._are_digits(one) or not self._are_digits(other):
             return False
         told = self._machine(one, other).go(steps)
-        if len(told) < steps or told[-1][0] != "done":
+        # If fewer steps could be done, the last one that is told is none.
+        if told[-1][0] != "done":
             return False
         return _breach_at_end(Bond(self.program, row), told) == kind
 

@@ -114,6 +114,11 @@ class TestLanes(unittest.TestCase):
                              ["row 0: 0 1", "row 1: 0 1", "ok", "row 0: 0 1"])
             desk.answer(f"rule {text}")
 
+    def test_one_lane_alone_begins_anew_too(self):
+        desk = desk_with(EXAMPLE, "1")
+        self.assertEqual(answers(desk, "step", "rule told", "step", "step", "rule least", "step"),
+                         ["row 0: 0", "ok", "row 0: 0", "row 1: 0", "ok", "row 0: 0"])
+
     def test_what_is_refused_does_not_begin_anew(self):
         desk = desk_with(EXAMPLE, "1", "-")
         desk.answer("step")

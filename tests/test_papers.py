@@ -268,6 +268,14 @@ class TestMachines(unittest.TestCase):
                 self.assertIs(accepts(LOOP, "told", with_part(paper, place, values)), False)
         self.assertIs(accepts(LOOP, "first", paper), False)
 
+    def test_a_promise_that_is_broken_by_the_first_step(self):
+        program = Program([("group", "a", 0)])
+        for rule in RULES:
+            self.assertEqual(promise_paper(program, rule, 0), ("broken", 0, "stranger", (), (), 1))
+            self.assertIs(accepts(program, rule, ("broken", 0, "stranger", (), (), 1)), True)
+            for steps in (0, 2, -1, True):
+                self.assertIs(accepts(program, rule, ("broken", 0, "stranger", (), (), steps)), False)
+
     def test_later_steps_break_a_promise_too(self):
         # The same lanes are strangers at each turn from then on, behind four rows more.
         for steps in range(1, 60):
@@ -348,6 +356,21 @@ class TestKept(unittest.TestCase):
                              (entry[0], 0.0, 0), (entry[0], "0", 0), (entry[0], 0, Everything()), (entry[0], 1, 0),
                              (entry[0], Hostile(), Hostile()), (None, *entry[1:])):
                     self.assertIs(accepts(program, rule, ("kept", row, [*left, bent], unrelated)), False, bent)
+
+    def test_counts_begin_alike(self):
+        # Nobody comes to the group operation, so that nothing else but the beginning asks for counts.
+        for rows, row in (([("end",), ("group", "a", None)], 1), ([("take", "x"), ("end",), ("group", "a", 0)], 2)):
+            program = Program(rows)
+            for rule in RULES:
+                paper = promise_paper(program, rule, row)
+                self.assertEqual({entry[1:] for entry in paper[2]}, {(0, 0)})
+                for least in (None, -2, -1, 0, 1, 2):
+                    for greatest in (None, -1, 0, 1, 5):
+                        if None in (least, greatest) or least <= greatest:
+                            bent = with_part(paper, 2, [(entry[0], least, greatest) for entry in paper[2]])
+                            right = (least is None or least <= 0) and (greatest is None or greatest >= 0)
+                            self.assertIs(accepts(program, rule, bent), right, (least, greatest))
+                            self.beside_the_words(program, rule, bent)
 
     def test_states_of_lanes_not_related(self):
         some = 0

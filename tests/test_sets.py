@@ -37,6 +37,35 @@ NO_COUNTED = (
 NO_SCENES = (*NO_COUNTED, (1, 2, ((0,), (0,)), False), (1, 2, ((0,), (1,), (1,)), False))
 
 
+# Programs in which lanes that part from others that end go on as all that are left, so that scenes with the end as their
+# join and no lanes outside come of arms, also of arms of arms, and of nothing else.
+LEFT = [
+    Program([("take", "x"), ("set", "y", 1), ("group", "see", None), ("meet", "all"), ("same", "x", "y"),
+             ("if", "x", 0, 7, 7), ("if", "y", 0, 7, 7)], registers=("x", "y")),
+    Program([("take", "x"), ("same", "x", "y"), ("group", "see", None), ("if", "y", 0, 4, 0), ("if", "x", 1, 7, 7),
+             ("any", "x", 1, "y"), ("copy", "y", "x")], registers=("x", "y")),
+    Program([("take", "x"), ("same", "x", "y"), ("if", "y", 1, 0, 0), ("if", "x", 1, 10, 9), ("take", "x"),
+             ("same", "x", "y"), ("if", "y", 1, 4, 4), ("if", "x", 1, 10, 10), ("group", "a", None),
+             ("group", "b", None)], registers=("x", "y")),
+    Program([("take", "x"), ("if", "x", 1, 5, 5), ("take", "x"), ("if", "x", 0, 0, 3), ("if", "x", 1, 5, 5)]),
+    Program([("take", "y"), ("if", "y", 0, 7, 5), ("take", "y"), ("take", "y"), ("if", "y", 0, 7, 7), ("go", 0), ("end",)],
+            registers=("x", "y")),
+]
+
+
+def leaving_programs(many):
+    """Some programs whose branches often lead to the end, or rejoin there, with both rules."""
+    for chance in chances(many):
+        program = forward_program(chance, 7, 0.1, chance.choice([(("x",), 2), (("x",), 3), (("x", "y"), 2)]))
+        rows = [(*row[:3], chance.choice([row[3], program.end]), chance.choice([row[4], row[3], program.end]))
+                if row[0] == "if" else row for row in program.rows]
+        rows = [("same", program.registers[0], program.registers[-1]) if row[0] == "group" and chance.random() < 0.5
+                else row for row in rows]
+        program = Program(rows, registers=program.registers, values=program.size)
+        for rule in RULES:
+            yield chance, program, rule
+
+
 def programs(many, most=11):
     """Some programs, with rows that steer and without, and both rules."""
     for chance in chances(many):
@@ -365,6 +394,27 @@ class TestLeastTables(unittest.TestCase):
                 self.show(program, rule, sketch, scene, arrival)
                 shown += 1
         self.assertGreater(shown, 3000)
+
+    def beside_the_words(self, program, rule):
+        """The table, and the least limit that is enough for it."""
+        least = Rules(program, rule).least()
+        self.assertEqual(Sets(program, rule=rule).table(), sorted((scene, sorted(least[scene])) for scene in least))
+        many = sum(1 + len(least[scene]) for scene in least)
+        self.assertEqual(len(Sets(program, rule=rule, limit=many)), len(least))
+        self.assertEqual(error_of(self, TooMany, lambda: Sets(program, rule=rule, limit=many - 1)), many - 1)
+
+    def test_lanes_that_are_left(self):
+        for program in LEFT:
+            for rule in RULES:
+                self.beside_the_words(program, rule)
+        self.assertIn((8, 10, ((0, 0),), False), Sets(LEFT[2]))
+
+    def test_branches_that_lead_to_the_end(self):
+        arms = 0
+        for _, program, rule in leaving_programs(150):
+            self.beside_the_words(program, rule)
+            arms += Sets(program, rule=rule).sketch.arms is not None
+        self.assertGreater(arms, 80)
 
     def show(self, program, rule, sketch, scene, arrival):
         """A machine comes to the scene, and then with the arrival to its end."""

@@ -211,6 +211,7 @@ class TestSource(unittest.TestCase):
         for own, made in ((0, lambda block: block), (2, lambda block: (("if", "x", 1, block, ()),)),
                           (2, lambda block: (("if", "x", 1, block[:3], block[3:]),)),
                           (3, lambda block: (("while", "x", 1, block),)),
+                          (3, lambda block: (("while", "x", 1, tuple([("leave", "x", 0) for _ in block])),)),
                           (4, lambda block: (("while", "x", 1, ()), *block[1:], TAKE, GROUP)),
                           (8, lambda block: (("while", "x", 1, (("if", "x", 0, (("while", "x", 0, block),), ()),)),))):
             self.assertEqual(len(Source(made((TAKE,) * (24 - own))).lowered()), 24)
