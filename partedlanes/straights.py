@@ -2,28 +2,41 @@
 
 from partedlanes.acts import classes_behind
 from partedlanes.checks import CHANGING
+from partedlanes.sieves import many_of
 from partedlanes.sketches import FIRST
 
 
 def straight_way(sketch, index, code, most):
-    """A list of tuples (row, number of a crowd) as far as these, with the fewest steps, fewer than so many; or None."""
+    """A list of tuples (row, number of a crowd) as far as these, with fewer than so many steps, or None.
+
+    If there are such ways on which no crowd has more classes than the last one, it is one of these.
+    """
+    narrow = 0
+    for crowds in sketch.sieve.by_sizes()[:many_of(code)]:
+        narrow = narrow | crowds
+    way = _way_within(sketch, narrow, (index, code), most)
+    return _way_within(sketch, sketch.sieve.every, (index, code), most) if way is None else way
+
+
+def _way_within(sketch, allowed, goal, most):
+    """Such a way with the fewest steps of all that have only crowds of a set, or None."""
     layers = [{0: 1 << FIRST}]
     known = {0: 1 << FIRST}
-    while (layers[-1].get(index, 0) >> code) & 1 == 0:
-        layers.append(_next_layer(sketch, layers[-1], known))
+    while (layers[-1].get(goal[0], 0) >> goal[1]) & 1 == 0:
+        layers.append(_next_layer(sketch, layers[-1], known, allowed))
         if len(layers[-1]) == 0 or len(layers) > most:
             return None
-    way = [(index, code)]
+    way = [goal]
     for layer in reversed(list(layers[:-1])):
         way.append(_place_ahead(sketch, layer, way[-1]))
     return way[::-1]
 
 
-def _next_layer(sketch, layer, known):
+def _next_layer(sketch, layer, known, allowed):
     found = {}
     for index, some in layer.items():
         for later, crowds in sketch.sieve.onward(index, some):
-            fresh = crowds & ~known.get(later, 0)
+            fresh = crowds & allowed & ~known.get(later, 0)
             if fresh > 0 and later < sketch.end:
                 found[later] = found.get(later, 0) | fresh
                 known[later] = known.get(later, 0) | fresh

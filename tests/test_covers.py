@@ -86,13 +86,18 @@ class TestFewestSteps(unittest.TestCase):
             for scene in [scene for scene in sketch.all_scenes() if plot.is_trunk(scene)]:
                 way = straight_way(sketch, scene[0], scene[2], 1000)
                 found[way is not None] += 1
-                if sketch.arms is None:
-                    self.assertEqual(len(way) - 1, steps[plot.tell(scene)])
                 if way is not None:
                     self.goes_straight(program, rule, sketch, way)
-                    if len(way) > 1:
-                        self.assertIsNone(straight_way(sketch, scene[0], scene[2], len(way) - 1))
-                        self.assertEqual(straight_way(sketch, scene[0], scene[2], len(way)), way)
+                    # Only ways of narrower crowds may be longer; there may be too many steps, but not too few.
+                    widest = max(len(sketch.crowd_of(code)) for _, code in way)
+                    if widest > len(sketch.crowd_of(scene[2])) and sketch.arms is None:
+                        self.assertEqual(len(way) - 1, steps[plot.tell(scene)])
+                    self.assertEqual(straight_way(sketch, scene[0], scene[2], len(way)), way)
+                if sketch.arms is None:
+                    fewest = steps[plot.tell(scene)]
+                    self.assertLessEqual(len(straight_way(sketch, scene[0], scene[2], fewest + 1)) - 1, fewest)
+                    if fewest > 0:
+                        self.assertIsNone(straight_way(sketch, scene[0], scene[2], fewest))
         self.assertGreater(min(found.values()), 5, found)
 
     def goes_straight(self, program, rule, sketch, way):

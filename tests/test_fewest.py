@@ -5,18 +5,20 @@ import unittest
 from unittest import mock
 
 from partedlanes import showings
+from partedlanes.counts import most_counted
 from partedlanes.errors import BadNumber, BadProgram, BadRule, NoScene, TooMany
 from partedlanes.fewest import Counted, fewest_lanes, fewest_that_stand, is_counted_table
 from partedlanes.lanes import Data
 from partedlanes.machines import Machine
 from partedlanes.programs import Program
 from partedlanes.sets import Sets
-from partedlanes.views import can_stand_in_sets, is_stand, is_view, lanes_for, views
+from partedlanes.views import can_stand_in_sets, is_stand, is_view, lanes_for, lanes_that_stand, views
 from tests.helpers import NO_INTEGERS, STRANGE, Everything, error_of, refused
 from tests.literal import chances, some_data
 from tests.literal_scenes import Rules, fellows, forward_program, leavers
 from tests.test_roads import NO_PROGRAMS, NO_RULES
-from tests.test_sets import BOTH, EXAMPLE, NO_COUNTED, ONE, SMALL, ZERO, arrivals_seen, programs
+from tests.test_sets import (BOTH, EXAMPLE, NO_COUNTED, ONE, SMALL, ZERO, arrivals_seen, leaving_programs,
+                             programs)
 from tests.test_tables import with_place
 from tests.test_views import NO_CROWDS, STUCK, watched
 
@@ -341,6 +343,60 @@ class TestFewest(unittest.TestCase):
         self.assertEqual(error_of(self, TooMany, lambda: fewest_lanes(program, 1, crowd, limit=41)), 41)
         self.assertEqual(fewest_lanes(program, 1, crowd, limit=42)[0], 3)
         self.assertEqual(fewest_lanes(program, 1, crowd[:2], limit=30)[0], 2)
+
+    def test_tables_that_are_needed_by_any_programs(self):
+        found = {"many": 0, "none": 0, "shown": 0}
+        for chance, program, rule in [*programs(40, 8), *leaving_programs(40)]:
+            sets = Sets(program, rule=rule, limit=20000)
+            sizes = [size(sets), *[size(Counted(program, lanes, rule=rule, limit=20000)) for lanes in (1, 2, 3)]]
+            questions = [(row, crowd) for row, crowds in views(program, rule=rule, limit=20000).items() for crowd in crowds]
+            for row, crowd in [*chance.sample(questions, min(len(questions), 3)), (None, None)]:
+                def ask(limit):
+                    if row is None:
+                        return fewest_that_stand(program, rule=rule, limit=limit)
+                    return fewest_lanes(program, row, crowd, rule=rule, limit=limit)
+
+                shown = ask(20000)
+                for limit in {size + more for size in sizes for more in (-1, 0)}:
+                    # Tables of 1, 2 and so on lanes are needed, until one shows it.
+                    needed = sizes[:1] if shown is None else sizes[:1 + shown[0]]
+                    if shown is not None and shown[0] > 3 and max(needed) <= limit:
+                        continue
+                    if max(needed) > limit:
+                        found["many"] += 1
+                        self.assertEqual(error_of(self, TooMany, lambda: ask(limit)), limit)
+                    else:
+                        found["none" if shown is None else "shown"] += 1
+                        self.assertEqual(ask(limit) and ask(limit)[0], shown and shown[0])
+        self.assertGreater(min(found.values()), 50, found)
+
+    def test_tables_have_no_more_than_is_reckoned(self):
+        near = 0
+        for _, program, rule in [*programs(40, 8), *leaving_programs(40)]:
+            sketch = Sets(program, rule=rule, limit=20000).sketch
+            for lanes in (1, 2, 3, 4):
+                many = size(Counted(program, lanes, rule=rule, limit=20000))
+                reckoned = most_counted(sketch, lanes)
+                self.assertLessEqual(many, reckoned, (program.rows, rule, lanes))
+                near += reckoned <= 2 * many
+        self.assertGreater(near, 200)
+
+    def test_lanes_that_were_found_first_are_not_the_fewest(self):
+        program = Program([("take", "x"), ("if", "x", 2, 7, 7), ("take", "x"), ("same", "x", "x"), ("if", "x", 0, 7, 7),
+                           ("group", "see", None), ("set", "x", 0), ("all", "x", 2, "x"), ("meet", "all"),
+                           ("if", "x", 1, 3, 10)], values=3)
+        crowd = ((0,), (2,))
+        self.assertEqual(len(lanes_for(program, 7, crowd)), 3)
+        number, datas = fewest_lanes(program, 7, crowd)
+        self.assertEqual([number, is_view(program, 7, crowd, datas)], [2, True])
+        for rows in ([("take", "x"), ("if", "x", 0, 3, 6), ("same", "x", "x"), ("if", "x", 0, 5, 5), ("copy", "x", "x"),
+                      ("meet", "all"), ("if", "x", 1, 7, 7)],
+                     [("take", "x"), ("take", "x"), ("if", "x", 0, 4, 7), ("take", "x"), ("if", "x", 2, 7, 1),
+                      ("if", "x", 0, 8, 8), ("if", "x", 2, 8, 8), ("meet", "all")]):
+            program = Program(rows, values=3)
+            self.assertEqual(len(lanes_that_stand(program)), 3)
+            number, datas = fewest_that_stand(program)
+            self.assertEqual([number, is_stand(program, datas)], [2, True])
 
     def test_too_many_steps_and_values(self):
         datas = fewest_lanes(EXAMPLE, 5, BOTH)
