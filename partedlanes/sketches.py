@@ -74,7 +74,7 @@ class Sketch:
         return found
 
     def _behind_first(self, scenes, firsts, code):
-        """The same for scenes whose first arm comes to its end with such crowds, as it does with this one."""
+        """The same where the first arm of scenes comes to its end with a set of crowds; code: that of one of them."""
         if firsts == 0:
             return []
         seconds = [self.plot.second_arm(scene, code) for scene in scenes]

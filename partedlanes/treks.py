@@ -9,10 +9,11 @@ A trek is a list of parts, in order, which work on a pile of bunches of lanes, t
 - ("swap",): the two bunches on top change their places.
 - ("rejoin",): the two bunches on top become one.
 
-What is *found* of scenes is an object with `plot`, `start`, `stride` (what a step costs), `sure` (a dict of scenes,
-each with a dict of its arrivals and what these cost) and `nexts(scene)`, a list of ways. A way is a tuple (cost, what
-comes, arms): arms are () if the lanes do not part, or to the first arm; (first,) to the second one, with the crowd that
-the first one comes to its end with; (first, second) to what comes behind both.
+What is *found* of scenes is an object with `plot`, `stride` (what a step costs), `nexts(scene)`, a list of ways, and
+`sure`, a dict of scenes, each with a dict of its arrivals and what these cost; the arms of a scene are in it when its
+ways were asked for. A way is a tuple (cost, what comes, arms): arms are () if the lanes do not part, or to the first
+arm; (first,) to the second one, with the crowd that the first one comes to its end with; (first, second) to what comes
+behind both.
 """
 
 from heapq import heappop, heappush
