@@ -19,6 +19,7 @@ class Longest:
         self.sure = {}
         self.lengths = {}
         self.tails = {}
+        self.behind = {}
         self.told_arms = {}
         self.circle = []
         self.longest_wait = 0
@@ -35,53 +36,69 @@ class Longest:
         while len(left) > 0 and len(self.circle) == 0:
             scene = left[-1]
             missing = [] if scene in self.lengths else self._missing(scene)
-            if len(missing) == 0:
-                left.pop()
-                if scene not in self.lengths:
-                    self._tell(scene)
-                    road.pop(scene, None)
-            else:
+            if len(missing) > 0:
                 road[scene] = True
                 left.extend(missing)
                 back = [later for later in missing if later in road]
                 if len(back) > 0:
                     self.circle = list(road)[list(road).index(back[0]):]
+            else:
+                left.pop()
+                if scene not in self.lengths:
+                    self._tell(scene)
+                    road.pop(scene, None)
 
     def _missing(self, scene):
         """Scenes that have to be told ahead of a scene, as far as can be seen yet; none if it can be told."""
-        if not self.plot.parts(scene):
-            return self._not_told(self.plot.comings(scene))
+        if scene in self.behind:
+            # When the scene is looked at once more, all that it asked for is told.
+            return []
+        if self.plot.parts(scene):
+            return self._missing_arms(scene)
+        self.behind[scene] = self.plot.comings(scene)
+        return self._not_told(self.behind[scene])
+
+    def _missing_arms(self, scene):
         first = self.plot.first_arm(scene)
-        if len(self._not_told([first])) > 0:
-            return [first]
-        firsts = {first: 0} if isinstance(first, int) else self.sure[first]
-        seconds = [
-            self.plot.second_arm(scene, 0 if ended else 1) for ended in (True, False)
-            if len(arrivals_of_kind(firsts, ended)) > 0
-        ]
-        missing = self._not_told(seconds)
-        if len(missing) == 0 and scene not in self.told_arms:
+        missing = self._not_told([first])
+        if len(missing) == 0:
+            firsts = {first: 0} if isinstance(first, int) else self.sure[first]
+            seconds = [
+                self.plot.second_arm(scene, 0 if ended else 1) for ended in (True, False)
+                if len(arrivals_of_kind(firsts, ended)) > 0
+            ]
+            missing = self._not_told(seconds)
+        if len(missing) == 0:
             self.told_arms[scene] = self.claims.told_of_arms(scene)
-            missing = self._not_told([self.plot.rest(scene, both) for both in self.told_arms[scene][1]])
+            self.behind[scene] = [self.plot.rest(scene, both) for both in self.told_arms[scene][1]]
+            missing = self._not_told(self.behind[scene])
         return missing
 
     def _not_told(self, laters):
         return [later for later in laters if not isinstance(later, int) and later not in self.lengths]
 
     def _tell(self, scene):
-        if self.plot.parts(scene):
+        laters = self.behind[scene]
+        if scene in self.told_arms:
             length, sums = self.told_arms[scene]
-            ways_on = [(1 + sums[both][0], self.plot.rest(scene, both)) for both in sums]
             waits = self._waits_of_arms(scene)
-            comings = [(waits[both], self.plot.rest(scene, both)) for both in waits]
+            comings = [(1 + sums[both][0], waits[both], self.plot.rest(scene, both)) for both in sums]
+            self._tell_behind(scene, length, comings)
+        elif len(laters) == 1 and not isinstance(laters[0], int):
+            ahead = 0 if self.plot.is_open(scene) else 1
+            numbers = self.sure[laters[0]]
+            self.lengths[scene] = ahead + self.lengths[laters[0]]
+            self.sure[scene] = {arrival: ahead + numbers[arrival] for arrival in numbers}
+            self.tails[scene] = self.tails[laters[0]]
         else:
             ahead = 0 if self.plot.is_open(scene) else 1
-            length = 0
-            laters = self.plot.comings(scene)
-            ways_on = [(ahead, later) for later in laters]
-            comings = [(0, later) for later in laters]
-        self.lengths[scene], self.sure[scene] = self.claims.asked_behind(ways_on, length)
-        self.tails[scene] = self._tails_behind(comings)
+            self._tell_behind(scene, 0, [(ahead, 0, later) for later in laters])
+
+    def _tell_behind(self, scene, length, comings):
+        """Tells a scene that has at least a length; comings: tuples (steps, how long lanes have waited, what comes)."""
+        told = self.claims.asked_behind([(ahead, later) for ahead, _, later in comings], length)
+        self.lengths[scene], self.sure[scene] = told
+        self.tails[scene] = self._tails_behind([(wait, later) for _, wait, later in comings])
 
     def length(self, scene):
         """The length of a scene."""
@@ -97,9 +114,9 @@ class Longest:
 
     def nexts(self, scene):
         """Tuples (steps, what comes, arms) of a scene, as those of a least table."""
-        if not self.plot.parts(scene):
+        if scene not in self.told_arms:
             ahead = 0 if self.plot.is_open(scene) else 1
-            return [(ahead, later, ()) for later in self.plot.comings(scene)]
+            return [(ahead, later, ()) for later in self.behind[scene]]
         sums = self.told_arms[scene][1]
         return [(1 + sums[both][0], self.plot.rest(scene, both), sums[both][1:]) for both in sums]
 
@@ -126,9 +143,6 @@ class Longest:
 
         comings: tuples (how long lanes have waited, what comes then).
         """
-        if len(comings) == 1 and not isinstance(comings[0][1], int):
-            self._see_wait(comings[0][1], comings[0][0])
-            return self.tails[comings[0][1]]
         tails = {}
         for wait, later in comings:
             if isinstance(later, int):
